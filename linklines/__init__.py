@@ -1,0 +1,1 @@
+"""Linklines: what every line of files links to."""

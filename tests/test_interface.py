@@ -1,0 +1,123 @@
+"""Promises 3 and 4: names, arguments and places of the interface; the errors."""
+
+import importlib
+import inspect
+import unittest
+
+from linklines import errors
+from tests.tools import any_objects
+
+FUNCTIONS = """
+programs: linked(store, line); links(store, line)
+stands: stand(store, line); outcome(store, line); stands(store); stand_behind(store, number, name); outcomes(store)
+stands: least_line(store, ahead)
+alikelines: lines_part(store, one, other); kinds(store); are_sound(store, thing); needless(store)
+alikelines: line_that_needs(store, name)
+places: places_part(store, one, other); first_led(store, line); exchanges(store, one, other)
+places: are_exchanges(store, one, other, thing); pair_against(store, one, other)
+orders: orders_part(store, names); order_that_links(store, names); how_many_link(store, names)
+mains: came(store, row, wants, has); face(store, row, wants, has); first_unclear(store, row)
+chains: chains(store, row); word_of(store, row, chain); places_of(store, row, chain)
+rows: rows_part(store, one, other); unsafe_main(store, row); once(store, names); ring_against(store, names)
+archives: archives_part(store, one, other, is_open); silent_wants(store, name)
+archives: heard_main(store, name, member, want); least_archive(store, name, is_open)
+companies: row(store, needs, company); bound(store, needs, company)
+aheads: surely_there(store, needs); surely_ahead(store, needs, one, other); company_ahead(store, needs, one, other)
+aheads: first_ones(store, needs, name, there=()); company_for(store, needs, name, there, thing)
+meetings: binding(store, needs, reference); meeting(store, needs, one, other)
+meetings: company_where(store, needs, one, other, is_met); promises(store, needs, name, there, library)
+merging: merged(libraries); bar(libraries)
+releases: fits(releases, library, number, other); unsteady(releases)
+"""
+
+CLASSES = """
+objects: Object(names, wants=(), asks=(), sections=()): names() wants() asks() sections()
+objects: Archive(members): members()
+objects: Library(tells, wants=(), asks=(), needs=(), own_first=False, stays=False)\
+: tells() wants() asks() needs() own_first() stays()
+stores: Store(files): files() file(name)
+releases: Releases(libraries): libraries() release(library,number)
+"""
+
+ERRORS = """
+BadNames(name), BadWants(index), BadAsks(index), BadSections(index), BadSpot(name), BadMembers(index), BadTells(index),
+BadNeeds(index), BadMark(thing), BadFiles(name), NoFile(name), BadLine(index), Twice(name), Missing(lacking),
+NotTaken(who), BadNumber(number), BadPick(index), BadRow(index), BadHas(index), NotClear(name), BadChain(thing),
+NoArchive(name), NoMember(member), NoWant(want), Lacking(word), BadPlaces(index), BadCompany(index),
+BadReference(thing), NoLibrary(name), BadName(name), BadThere(index), NoRow(), BadList(index), BadReleases(name),
+NoRelease(number), Unsteady(), BadState(thing), BadGoals(name), NotGood(state), NotAbove(library), NoBundle(number),
+BadClient(index), NotServed(index), BadChange(index), BadLibraries(name), BadStart(index), BadKeeping(thing),
+BadDeed(index), NoSlot(name), UnlikeWorlds(), BadRows(index), BadWords(index), BadWishes(index), Ringed(ring),
+BadOrder(thing), BadNumbers(thing), BadBegins(name), BadEnds(name), BadUses(name), BadPattern(thing), BadRule(index),
+BadInput(thing), BadInputs(index), Untaken(index), NoRule(number), BadRules(index), BadPage(thing), BadPart(index),
+BadSizes(index), NoPart(word), NotBehind(one, other), BadFar(far), BadBody(name), NoBody(name), BadApart(index),
+BadRoots(index), NoName(name), BadChanges(thing), NoSection(who, number), BadRun(index), BadPrices(index),
+BadCells(index), NoObject(name), BadObject(thing), BadTable(thing), BadWord(word), BadLength(length), Full(index),
+NoSort(thing), TooLarge(), BadBytes(thing), BadByte(index), BadHole(word), BadKind(kind), BadThing(thing),
+Lacks(name), NotOf(name), Needed(name, by), HasHole(name), NotWanted(word), BadText(index), Nothing()
+"""
+
+
+def listed_errors():
+    told = []
+    for entry in ERRORS.replace("\n", " ").split("),"):
+        name, rest = entry.strip().rstrip(")").split("(")
+        told.append((name, [word.strip() for word in rest.split(",") if word.strip()]))
+    return told
+
+
+class TestInterface(unittest.TestCase):
+    def test_functions_stand_in_their_files_with_their_arguments(self):
+        for line in FUNCTIONS.strip().splitlines():
+            file, rest = line.split(": ", 1)
+            module = importlib.import_module("linklines." + file)
+            for entry in rest.split("; "):
+                function = getattr(module, entry.split("(")[0])
+                self.assertEqual(function.__module__, "linklines." + file)
+                self.assertTrue(inspect.isfunction(function))
+                self.assertEqual(str(inspect.signature(function)), entry[entry.index("("):])
+
+    def test_classes_have_their_methods_themselves(self):
+        for line in CLASSES.strip().splitlines():
+            file, entry, methods = line.split(": ")
+            made = getattr(importlib.import_module("linklines." + file), entry.split("(")[0])
+            self.assertEqual(made.__module__, "linklines." + file)
+            self.assertEqual(str(inspect.signature(made)), entry[entry.index("("):])
+            self.assertIn("__eq__", vars(made))
+            for method in methods.split():
+                name, rest = method.rstrip(")").split("(")
+                found = inspect.signature(vars(made)[name])
+                self.assertEqual(list(found.parameters), ["self", *[word for word in rest.split(",") if word]])
+
+    def test_the_program_of_a_line_has_its_methods_itself(self):
+        made = importlib.import_module("linklines.programs").Program
+        for name in ("taken", "meanings", "libraries", "commons", "sections"):
+            self.assertEqual(list(inspect.signature(vars(made)[name]).parameters), ["self"])
+        for name in ("object_of", "reason"):
+            self.assertEqual(list(inspect.signature(vars(made)[name]).parameters), ["self", "who"])
+        self.assertIn("__eq__", vars(made))
+
+
+class TestErrors(unittest.TestCase):
+    def test_all_errors_are_direct_subclasses_of_the_base(self):
+        self.assertEqual(errors.LinkError.__bases__, (ValueError,))
+        self.assertEqual(len(listed_errors()), 102)
+        for name, _ in listed_errors():
+            made = getattr(errors, name)
+            self.assertEqual(made.__bases__, (errors.LinkError,))
+            self.assertEqual(made.__module__, "linklines.errors")
+
+    def test_errors_keep_the_very_objects_that_they_are_made_with(self):
+        for name, words in listed_errors():
+            for thing in any_objects():
+                things = [thing if at == 0 else [thing] for at in range(len(words))]
+                made = getattr(errors, name)
+                for error in (made(*things), made(**dict(zip(words, things)))):
+                    for word, kept in zip(words, things):
+                        self.assertIs(getattr(error, word), kept)
+
+    def test_errors_can_be_caught_as_the_base_and_as_value_errors(self):
+        with self.assertRaises(errors.LinkError):
+            raise errors.NoRow()
+        with self.assertRaises(ValueError):
+            raise errors.NotBehind("one", "other")
