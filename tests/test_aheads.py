@@ -93,6 +93,24 @@ class TestFirstOnes(unittest.TestCase):
         self.assertTrue(all(library in loaded for library in there))
         self.assertEqual(plain_first(store, loaded, company, "m"), thing)
 
+    def test_facts_where_there_is_a_hole(self):
+        for store, needs in grounds(60):
+            holes = plain_holes(needs)
+            if not holes:
+                continue
+            tellers = [library for library in WORDS if "m" in store.file(library).tells()]
+            for there in ([], ["b"]):
+                libraries = [library for library in tellers
+                             if not any(surely_ahead(store, needs, other, library) for other in tellers)]
+                places = [at for at, thing in enumerate(needs) if not isinstance(thing, str)]
+                free = [number for number, at in enumerate(places) if "m" not in needs[at]
+                        and not any(library in needs[:at] for library in tellers)]
+                needed = [*surely_there(store, needs), *there]
+                for library in needed:
+                    needed.extend(word for word in store.file(library).needs() if word not in needed)
+                nobody = [] if set(needed) & set(tellers) else [None]
+                self.assertEqual(first_ones(store, needs, "m", there), [*libraries, *free, *nobody])
+
     def test_there_may_be_left_out(self):
         store, needs = example_34(), ["a", [], "c"]
         self.assertEqual(first_ones(store, needs, "m"), first_ones(store, needs, "m", ()))

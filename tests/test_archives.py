@@ -174,6 +174,18 @@ class TestSilentWants(unittest.TestCase):
         self.assertEqual(least_archive(both, "two", is_open), least)
         self.assertIsNone(first_unclear(both, ["two"]))
 
+    def test_alike_archives_tell_and_want_all_that_the_least_does(self):
+        alike = 0
+        for store in some_stores(160):
+            for is_open in (True, False):
+                if archives_part(store, "one", "two", is_open) is None:
+                    held_by = {name: held for _, held in store.file("two").members() for name in held.names()}
+                    for word, held in least_archive(store, "one", is_open).members():
+                        self.assertEqual(list(held_by[word].names()), list(held.names()))
+                        self.assertLessEqual(set(held.wants()), set(held_by[word].wants()))
+                    alike += 1
+        self.assertGreater(alike, 30)
+
     def test_spots_asks_and_sections_are_not_kept(self):
         held = Object({"b": ("strong", (0, 0)), "a": ("strong", None)}, ["c"], ["d"], [("t", "r", 1, 1)])
         store = Store({"one": Archive([("m", obj("e")), ("z", held), ("n", obj("", "a"))])})

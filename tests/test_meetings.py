@@ -4,7 +4,7 @@ import itertools
 import unittest
 
 from linklines.aheads import first_ones
-from linklines.companies import row
+from linklines.companies import bound, row
 from linklines.meetings import binding, company_where, meeting, promises
 from linklines.objects import Library
 from linklines.stores import Store
@@ -54,6 +54,18 @@ class TestMeetings(unittest.TestCase):
                         self.assertTrue(one[0] in loaded and other[0] in loaded)
                         self.assertIs(plain_meet(store, loaded, company, one, other), is_met)
         self.assertGreater(min(counts[told] for told in ("sure", "open", "never", "no row")), 10)
+
+    def test_two_not_bound_to_their_own_meet_exactly_where_somebody_tells_the_name(self):
+        for store, needs in grounds(40):
+            free = [reference for reference in all_references(store) if not (store.file(
+                reference[0]).own_first() and reference[1] in store.file(reference[0]).tells())]
+            for one, other in itertools.combinations(free, 2):
+                if one[1] == other[1]:
+                    for company, loaded in all_rows(store, needs, one[1])[:60]:
+                        if one[0] in loaded and other[0] in loaded:
+                            told = dict(bound(store, needs, company))
+                            somebody = plain_first(store, loaded, company, one[1]) is not None
+                            self.assertIs(told[one] is not None and told[one] == told[other], somebody)
 
     def test_errors(self):
         store = Store({"a": Library(["m"], ["n"], ["k"]), "b": Library(["m"]), "o": obj("a", "n")})

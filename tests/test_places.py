@@ -4,10 +4,10 @@ import itertools
 import random
 import unittest
 
-from linklines.alikelines import lines_part
+from linklines.alikelines import kinds, lines_part
 from linklines.objects import Archive, Library, Object
 from linklines.places import are_exchanges, exchanges, first_led, pair_against, places_part
-from linklines.stands import stands
+from linklines.stands import stand_behind, stands
 from linklines.stores import Store
 from tests.test_stands import small_stores
 from tests.tools import any_objects, as_tuples, call_alike, example_10, lines_up_to, obj, plain_outcome, raised
@@ -64,6 +64,20 @@ class TestPlaces(unittest.TestCase):
                     self.assertEqual(told, plain_places_part(store, one, other, len(told[0])))
         self.assertGreater(min(parted, free), 10)
         self.assertGreater(deep, 4)
+
+    def test_they_may_exactly_if_from_each_stand_both_orders_lead_to_alike_ones(self):
+        for seed in range(40):
+            store = random_store(seed, 4)
+            lot_of = {number: at for at, lot in enumerate(kinds(store)) for number in lot}
+
+            def lot_behind(number, line):
+                for name in line:
+                    number = stand_behind(store, number, name)
+                return lot_of[number]
+
+            for one, other in itertools.combinations(store.files(), 2):
+                may = all(lot_behind(number, (one, other)) == lot_behind(number, (other, one)) for number in lot_of)
+                self.assertIs(places_part(store, one, other) is None, may)
 
     def test_one_file_may(self):
         for name in example_10().files():
@@ -169,6 +183,17 @@ class TestExchanges(unittest.TestCase):
                 self.assertIs(are_exchanges(store, one, one, thing), False)
         self.assertIs(are_exchanges(store, ["a", "a"], ["a", "a"], [0]), False)
         self.assertIs(are_exchanges(store, one, one, []), True)
+
+    def test_first_led_takes_the_first_that_can_pass_all_ahead(self):
+        store = free_store()
+        pairs = free_pairs(store)
+        for line in itertools.product("abce", repeat=4):
+            left, told = list(line), []
+            while left:
+                free = [name for at, name in enumerate(left) if all((ahead, name) in pairs for ahead in left[:at])]
+                told.append(min(free))
+                left.remove(min(free))
+            self.assertEqual(first_led(store, line), told)
 
     def test_lines_of_unlike_length(self):
         store = free_store()

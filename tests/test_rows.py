@@ -45,6 +45,25 @@ class TestRowsForAllMains(unittest.TestCase):
         self.assertEqual(told is None, have[0] == have[1])
 
 
+    def test_a_chain_that_one_row_lacks_gives_a_main(self):
+        many = 0
+        for seed in range(60):
+            store = Store(random_clear_archives(seed))
+            one, other = ["one", "two", "one"], ["two", "one"]
+            for chain in chains(store, other):
+                beginnings = [places_of(store, other, chain[:many]) for many in range(1, len(chain))]
+                if places_of(store, one, chain) is None or places_of(store, other, chain) is not None:
+                    continue
+                if None not in beginnings:
+                    held = {name: held for word in ("one", "two") for _, held in store.file(word).members()
+                            for name in held.names()}
+                    has = {want for name in chain[:-1] for want in held[name].wants()} - set(chain)
+                    faces = [face(store, row, [chain[0]], sorted(has)) for row in (one, other)]
+                    self.assertNotEqual(faces[0][2], faces[1][2])
+                    many += 1
+        self.assertGreater(many, 15)
+
+
 class TestSafeRows(unittest.TestCase):
     def test_unsafe_mains(self):
         safe = unsafe = 0

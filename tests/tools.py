@@ -78,9 +78,16 @@ def call_alike(case, function, *args, told_lists=True):
         case.assertIs(type(first), type(other))
         spoil(other)
     case.assertEqual(kept, listed)
-    again = function(*args)
+    again = function(*[rebuilt(thing) for thing in args])
     case.assertEqual(first, again)
     return first
+
+
+def rebuilt(thing):
+    """An equal store that was made otherwise, or the thing itself."""
+    if isinstance(thing, Store):
+        return Store({name: as_lists(thing.file(name)) for name in reversed(thing.files())})
+    return thing
 
 
 def raised(function, *args):
