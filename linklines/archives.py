@@ -111,7 +111,7 @@ def silent_wants(store, name):
 def member_called(tellers, member):
     """The member of that name that tells something, None if there is none."""
     for teller in tellers.values():
-        if isinstance(member, str) and teller.who[1] == member:
+        if teller.who[1] == member:
             return teller
     return None
 
@@ -123,7 +123,7 @@ def heard_main(store, name, member, want):
     teller = member_called(tellers, member)
     if teller is None:
         raise NoMember(member)
-    if not isinstance(want, str) or want not in teller.names_wanted:
+    if want not in teller.names_wanted:
         raise NoWant(want)
     if loud_name(tellers, teller, want) is None:
         return None

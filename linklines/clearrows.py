@@ -1,6 +1,6 @@
 """Rows of archives in which each name is told once, and the chains along which their members come."""
 
-from linklines.checks import is_list, is_word
+from linklines.checks import ascending, is_list, is_word
 from linklines.errors import BadRow, NotClear
 from linklines.objects import Archive
 
@@ -73,11 +73,7 @@ def tellers_of(store, archives):
             teller = Teller((archive, word), held)
             for name in teller.names_told:
                 tellers[name] = teller
-    return ascending_tellers(tellers)
-
-
-def ascending_tellers(tellers):
-    return {name: tellers[name] for name in sorted(tellers)}
+    return ascending(tellers)
 
 
 def clear_tellers(store, row):

@@ -1,7 +1,5 @@
 """Who can be the first to tell a name, and with which company."""
 
-from linklines.checks import is_integer
-
 
 def stands_ahead(loaded, one, other):
     """Whether one stands in a row, and not behind other."""
@@ -44,18 +42,14 @@ def is_first_hole(ground, name, hole):
     return not any([isinstance(thing, str) and ground.does_tell(thing, name) for thing in ahead])
 
 
-def is_same(one, other):
-    """Whether two things are one: True is no hole, though it equals 1."""
-    if one is None or other is None:
-        return one is None and other is None
-    if is_integer(one) and is_integer(other):
-        return one == other
-    return isinstance(one, str) and isinstance(other, str) and one == other
+def is_among(firsts, thing):
+    """Whether any object is one of the things told: True is no hole, though it equals 1."""
+    return not isinstance(thing, bool) and thing in firsts
 
 
 def company_with_first(ground, name, there, thing):
     """A company with this first one and all of there in the row, None if there is none."""
-    if not any([is_same(first, thing) for first in all_firsts(ground, name, there)]):
+    if not is_among(all_firsts(ground, name, there), thing):
         return None
     if not ground.has_holes():
         return []

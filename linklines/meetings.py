@@ -2,7 +2,7 @@
 
 from linklines.aheads import first_ones
 from linklines.errors import NoRow
-from linklines.firsts import all_firsts, company_with_first, is_same
+from linklines.firsts import all_firsts, company_with_first
 from linklines.grounds import Ground
 from linklines.objects import check_mark
 
@@ -27,7 +27,7 @@ def do_meet(ground, one, other, first):
     if one[1] != other[1]:
         return False
     things = [library if ground.binds_itself(library, name) else first for library, name in (one, other)]
-    return things[0] is not None and is_same(things[0], things[1])
+    return things[0] is not None and things[0] == things[1]
 
 
 def meeting_ground(store, needs, one, other):

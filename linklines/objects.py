@@ -16,7 +16,7 @@ def is_spot(thing):
 
 
 def is_definition(thing):
-    if not is_row_of(2, thing) or not isinstance(thing[0], str):
+    if not is_row_of(2, thing):
         return False
     if thing[0] == "common":
         return is_integer_from(1, thing[1])
@@ -37,7 +37,7 @@ def is_section(thing):
     if not is_row_of(4, thing):
         return False
     name, rights, align, body = thing
-    if not is_section_name(name) or not isinstance(rights, str) or rights not in RIGHTS:
+    if not is_section_name(name) or rights not in RIGHTS:
         return False
     return is_integer(align) and align in ALIGNS and is_body(body)
 

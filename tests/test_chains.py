@@ -84,6 +84,16 @@ class TestChains(unittest.TestCase):
                     self.assertEqual(raised(function, store, ["one", "two"], row) is None, row in good)
             self.assertEqual(raised(function, store, ["one"], ["c"]), ("BadChain", ["c"]))
 
+    def test_whatever_is_no_chain_is_refused(self):
+        for seed in range(60):
+            store = Store(random_clear_archives(seed))
+            row = ["one", "two"]
+            good = chains(store, row)
+            for many in range(1, 5):
+                for names in itertools.product("abcdx", repeat=many):
+                    error = None if names in good else ("BadChain", names)
+                    self.assertEqual(raised(word_of, store, row, names), error)
+
     def test_one_member_stands_just_once_in_a_chain(self):
         store = Store({"one": Archive([("p", obj("ab", "c")), ("q", obj("c", "b"))])})
         self.assertEqual(chains(store, ["one"]), [("a",), ("b",), ("c",), ("a", "c"), ("b", "c"), ("c", "b")])

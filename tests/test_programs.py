@@ -155,7 +155,7 @@ class TestPrograms(unittest.TestCase):
         told = linked(example_10(), ["main", "one", "two"])
         for function in (told.object_of, told.reason):
             for thing in [*any_objects(), ("main",), ("main", "b"), ("one", None), ("one", "z"), ("one", ["b"]),
-                          ("one", "b", None), "main", ["main", {}], (True, None)]:
+                          ("one", "b", None), "main", ["main", {}], (True, None), ([], None), [{}, "b"]]:
                 self.assertEqual(raised(function, thing), ("NotTaken", thing))
 
     def test_lists_names_and_new_things(self):
@@ -181,6 +181,13 @@ class TestPrograms(unittest.TestCase):
         for other in others:
             self.assertFalse(told == other)
             self.assertTrue(told != other)
+
+    def test_programs_with_libraries_read_in_another_order_are_unlike(self):
+        files = {"m": obj("", "ab"), "k": Library(["a"]), "l": Library(["b"])}
+        one, other = program(files, ["m", "k", "l"]), program(files, ["m", "l", "k"])
+        self.assertEqual(one.meanings(), other.meanings())
+        self.assertEqual((one.libraries(), other.libraries()), (["k", "l"], ["l", "k"]))
+        self.assertFalse(one == other)
 
     def test_programs_with_other_reasons_are_unlike(self):
         files = {"m": obj("", "ab"), "ar": Archive([("p", obj("ab"))]), "l": Library(["a"])}

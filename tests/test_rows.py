@@ -35,6 +35,7 @@ class TestRowsForAllMains(unittest.TestCase):
         if told is not None:
             wants, has = told
             self.assertEqual(len(wants), 1)
+            self.assertEqual(list(has), sorted(has))
             self.assertNotEqual(face(store, one, wants, has)[2], face(store, other, wants, has)[2])
 
     def check_chains(self, store, one, other, told):
@@ -44,6 +45,18 @@ class TestRowsForAllMains(unittest.TestCase):
                 for row, further in ((one, other), (other, one))]
         self.assertEqual(told is None, have[0] == have[1])
 
+
+    def test_what_the_main_has_keeps_other_chains_away(self):
+        # d comes by way of c in both rows, so a main that wants a has to have c
+        store = Store({"one": Archive([("p", obj("a", "bc"))]), "two": Archive([("p", obj("b", "d"))]),
+                       "three": Archive([("p", obj("c", "d"))]), "four": Archive([("p", obj("d"))])})
+        one, other = ["one", "two", "three", "four"], ["one", "three", "four", "two"]
+        self.assertEqual(face(store, one, ["a"], []), face(store, other, ["a"], []))
+        told = rows_part(store, one, other)
+        self.assertNotEqual(face(store, one, *told)[2], face(store, other, *told)[2])
+        told = unsafe_main(store, other)
+        self.assertNotEqual(face(store, one, *told)[2], face(store, other, *told)[2])
+        self.assertIsNone(unsafe_main(store, one))
 
     def test_a_chain_that_one_row_lacks_gives_a_main(self):
         many = 0
@@ -78,6 +91,7 @@ class TestSafeRows(unittest.TestCase):
                 self.assertEqual(told is None, all(places_of(store, row, chain) for chain in chains(store, row)))
                 if told is not None:
                     self.assertEqual(len(told[0]), 1)
+                    self.assertEqual(list(told[1]), sorted(told[1]))
                     self.assertLess(set(came(grouped, row, *told)), set(came(grouped, behind, *told)))
                     self.assertNotEqual(face(grouped, row, *told)[2], face(grouped, behind, *told)[2])
                 safe += told is None
