@@ -1,0 +1,57 @@
+"""All that rows of deeds lead to, in the order of the first rows that lead there."""
+
+from linklines.scenes import first_scene
+
+
+class Track:
+    """Numbers all that a beginning leads to; whatever it is, it can be copied, does deeds and has a mark."""
+
+    def __init__(self, begin):
+        self.halts = [begin]
+        self.numbers = {begin.mark(): 0}
+        self.known = {}
+
+    def led(self, number, deed):
+        """What a deed tells there, and the number of what it leads to."""
+        if (number, deed) not in self.known:
+            halt = self.halts[number].copied()
+            told = halt.done(deed)
+            mark = halt.mark()
+            if mark not in self.numbers:
+                self.numbers[mark] = len(self.halts)
+                self.halts.append(halt)
+            self.known[(number, deed)] = (told, self.numbers[mark])
+        return self.known[(number, deed)]
+
+
+class Roads:
+    """The first row to each number of a track; they are found as one goes on from number to number."""
+
+    def __init__(self, begin):
+        self.track = Track(begin)
+        self.rows = [()]
+        self.steps = []
+
+    def go_on(self):
+        """The triples (deed, what it tells, number) from the next number on, whose rows are known then."""
+        number = len(self.steps)
+        halt = self.track.halts[number]
+        found = []
+        for deed in halt.deeds():
+            told, target = self.track.led(number, deed)
+            if target == len(self.rows):
+                self.rows.append((*self.rows[number], deed))
+            found.append((deed, told, target))
+        self.steps.append(found)
+        return found
+
+    def is_done(self):
+        return len(self.steps) == len(self.rows)
+
+
+def all_roads(world):
+    """The roads of a world, with all that rows lead to."""
+    roads = Roads(first_scene(world))
+    while not roads.is_done():
+        roads.go_on()
+    return roads
