@@ -28,6 +28,23 @@ meetings: binding(store, needs, reference); meeting(store, needs, one, other)
 meetings: company_where(store, needs, one, other, is_met); promises(store, needs, name, there, library)
 merging: merged(libraries); bar(libraries)
 releases: fits(releases, library, number, other); unsteady(releases)
+states: is_good(releases, state); good_above(releases, state); good_below(releases, state)
+states: upgraded(releases, state, goals)
+bundles: bundles(releases, state, goal); ahead(releases, state, goal); is_order(releases, state, goal, thing)
+bundles: how_many_orders(releases, state, goal)
+links: is_link(releases, thing); why(releases, state, goal, number); is_why(releases, state, goal, number, thing)
+clients: served(releases, state, client); stands_for(releases, library, newer, elder)
+clients: lasting(releases, state, client); least_nodes(changes); apart(changes)
+deeds: many_processes(world); bindings(world, library, name); gone_row(world); stranded_row(world)
+steady: unsteady_rows(world, library, name); parting_row(one, other)
+weaves: woven(world, rows); race(world, rows)
+wishes: wish_ring(wishes); first_order(wishes); many_orders(wishes); sure_pairs(wishes); least_more(wishes, order)
+wishes: least_numbers(wishes); longest_chain(wishes); breaking_line(wishes, numbers)
+early: early_row(starts); late_row(starts); ahead_row(starts, one, other)
+uses: first_uses(uses, word); half_met(uses)
+patterns: is_pattern(thing); matches(pattern, name)
+scripts: laid(script, line); laid_program(script, program); put_in(script, number, rule)
+winners: file_classes(script); name_classes(script); first_won(script, number); first_untaken(script)
 """
 
 CLASSES = """
@@ -37,6 +54,13 @@ objects: Library(tells, wants=(), asks=(), needs=(), own_first=False, stays=Fals
 : tells() wants() asks() needs() own_first() stays()
 stores: Store(files): files() file(name)
 releases: Releases(libraries): libraries() release(library,number)
+worlds: World(libraries, start, rule): libraries() start() rule() group(name)
+processes: Process(world, row=()): more(row) answers() there() searched() opened() slots()
+wishes: Wishes(words, pairs): words() pairs()
+starts: Starts(world, begins, ends): world() begins() ends()
+courses: Course(starts, row=()): events() process() more(row)
+uses: Uses(calls): calls()
+scripts: Script(rules): rules() taker(file,name)
 """
 
 ERRORS = """
@@ -83,7 +107,8 @@ class TestInterface(unittest.TestCase):
             made = getattr(importlib.import_module("linklines." + file), entry.split("(")[0])
             self.assertEqual(made.__module__, "linklines." + file)
             self.assertEqual(str(inspect.signature(made)), entry[entry.index("("):])
-            self.assertIn("__eq__", vars(made))
+            if made.__name__ != "Course":
+                self.assertIn("__eq__", vars(made))
             for method in methods.split():
                 name, rest = method.rstrip(")").split("(")
                 found = inspect.signature(vars(made)[name])

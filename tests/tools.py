@@ -7,7 +7,13 @@ import random
 
 from linklines.errors import LinkError
 from linklines.objects import Archive, Library, Object
+from linklines.releases import Releases
+from linklines.scripts import Script
+from linklines.starts import Starts
 from linklines.stores import Store
+from linklines.uses import Uses
+from linklines.wishes import Wishes
+from linklines.worlds import World
 
 STRONG = ("strong", None)
 WEAK = ("weak", None)
@@ -80,13 +86,31 @@ def call_alike(case, function, *args, told_lists=True):
     case.assertEqual(kept, listed)
     again = function(*[rebuilt(thing) for thing in args])
     case.assertEqual(first, again)
+    if isinstance(first, dict):
+        case.assertEqual(list(first), list(again))
     return first
 
 
 def rebuilt(thing):
-    """An equal store that was made otherwise, or the thing itself."""
+    """An equal thing that was made otherwise, or the thing itself."""
     if isinstance(thing, Store):
         return Store({name: as_lists(thing.file(name)) for name in reversed(thing.files())})
+    if isinstance(thing, Releases):
+        made = {name: [as_lists(thing.release(name, number + 1)) for number in range(many)]
+                for name, many in reversed(thing.libraries().items())}
+        return Releases({name: [(tells[::-1], wants[::-1]) for tells, wants in kept] for name, kept in made.items()})
+    if isinstance(thing, World):
+        return World(dict(reversed(thing.libraries().items())), tuple(thing.start()), thing.rule())
+    if isinstance(thing, Starts):
+        return Starts(rebuilt(thing.world()), dict(reversed(thing.begins().items())), as_lists(thing.ends()))
+    if isinstance(thing, Wishes):
+        return Wishes(tuple(thing.words()), as_lists(thing.pairs()))
+    if isinstance(thing, Uses):
+        return Uses(as_lists(dict(reversed(thing.calls().items()))))
+    if isinstance(thing, Script):
+        return Script(as_lists(thing.rules()))
+    if isinstance(thing, dict):
+        return dict(reversed(thing.items()))
     return thing
 
 
