@@ -6,7 +6,7 @@ from linklines.journeys import Journey
 
 
 def bundles(releases, state, goal):
-    return [dict(pack) for pack in Journey(releases, state, goal).packs]
+    return Journey(releases, state, goal).packs
 
 
 def ahead(releases, state, goal):

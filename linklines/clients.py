@@ -1,6 +1,6 @@
 """Clients of releases, how long they are served, and nodes of versions."""
 
-from linklines.checks import is_integer_from, is_list, is_row_of
+from linklines.checks import is_integer, is_integer_from, is_list, is_row_of
 from linklines.errors import BadChange, BadClient, NotServed, Unsteady
 from linklines.goodness import Goodness
 from linklines.releases import is_words_row, unsteady
@@ -30,9 +30,6 @@ def served(releases, state, client):
 def stands_for(releases, library, newer, elder):
     if unsteady(releases) is not None:
         raise Unsteady()
-    releases.check_library(library)
-    releases.check_number(library, newer)
-    releases.check_number(library, elder)
     kept = releases.release(library, newer)[0]
     lacking = [pair for pair in releases.release(library, elder)[0] if pair not in kept]
     return lacking[0] if lacking else None
@@ -53,7 +50,7 @@ def lasting(releases, state, client):
 
 
 def is_change(thing):
-    if not is_row_of(2, thing) or not is_integer_from(1, thing[0]) or not is_integer_from(1, thing[1]):
+    if not is_row_of(2, thing) or not is_integer_from(1, thing[0]) or not is_integer(thing[1]):
         return False
     return thing[0] < thing[1]
 

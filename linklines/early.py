@@ -11,35 +11,26 @@ def meets(event, hows):
     return event[3][1] != event[1] and event[3][2] in hows
 
 
-def has_early_call(events):
-    return any([meets(event, ("unbegun", "half")) for event in events])
-
-
-def has_late_call(events):
-    return any([meets(event, ("ended",)) for event in events])
-
-
-def early_row(starts):
+def first_row_with(starts, hows):
+    """The first row with a call that meets another library that stands in one of these ways."""
     play, events = first_play(starts)
-    if has_early_call(events):
+    if any([meets(event, hows) for event in events]):
         return []
     roads = Roads(play)
     while not roads.is_done():
-        row = roads.rows[len(roads.steps)]
+        _, row = roads.next_halt()
         for deed, told, _ in roads.go_on():
-            if has_early_call(told):
+            if any([meets(event, hows) for event in told]):
                 return [*row, deed]
     return None
+
+
+def early_row(starts):
+    return first_row_with(starts, ("unbegun", "half"))
 
 
 def late_row(starts):
-    roads = Roads(first_play(starts)[0])
-    while not roads.is_done():
-        row = roads.rows[len(roads.steps)]
-        for deed, told, _ in roads.go_on():
-            if has_late_call(told):
-                return [*row, deed]
-    return None
+    return first_row_with(starts, ("ended",))
 
 
 def begins_too_soon(begun, events, one, other):
@@ -61,9 +52,8 @@ def ahead_row(starts, one, other):
         return []
     roads = Roads(play)
     while not roads.is_done():
-        number = len(roads.steps)
-        begun = roads.track.halts[number].begun
+        halt, row = roads.next_halt()
         for deed, told, _ in roads.go_on():
-            if begins_too_soon(begun, told, one, other):
-                return [*roads.rows[number], deed]
+            if begins_too_soon(halt.begun, told, one, other):
+                return [*row, deed]
     return None

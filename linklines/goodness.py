@@ -31,14 +31,13 @@ class Goodness:
                 self.wanted.setdefault((library, number, other), []).append((name, version))
 
     def measure(self, library, number):
-        """Keeps what fits a release; for a dead one also the first library of which nothing does."""
+        """Keeps what fits a release; for a dead one also a library of which nothing does."""
+        # no release wants anything of its own library: there all of them fit
         for other in self.counts:
-            if other == library:
-                continue
             first, last = self.first_pair(library, number, other), self.last_pair(library, number, other)
             if first[0] <= last[0]:
                 self.spans[(library, number, other)] = (first, last)
-            elif (library, number) not in self.barren:
+            else:
                 self.barren[(library, number)] = other
 
     def pairs_wanted(self, library, number, other):
@@ -99,7 +98,7 @@ class Goodness:
                 return (library, number, library, number + 1, ("dead", self.barren[(library, number)]))
         for library in self.counts:
             for other in self.counts:
-                link = None if other == library else self.link_between(state, library, other)
+                link = self.link_between(state, library, other)
                 if link is not None:
                     return link
         return None

@@ -17,7 +17,7 @@ def is_link_on(ground, thing):
     for word in (library, other):
         if not is_word(word) or word not in ground.counts:
             return False
-    if not ground.is_number(library, number) or not ground.is_number(other, further) or not is_list(reason):
+    if not ground.is_number(library, number) or not ground.is_number(other, further):
         return False
     if is_row_of(3, reason) and reason[0] == "wants":
         return is_wanted_ahead(ground, thing)
@@ -37,9 +37,7 @@ def is_wanted_ahead(ground, link):
 
 def is_wanted_behind(ground, link):
     library, number, other, further, reason = link
-    if further == 1 or ground.is_dead(other, further - 1):
-        return False
-    if not does_want(ground, other, further - 1, library, reason):
+    if ground.is_dead(other, further - 1) or not does_want(ground, other, further - 1, library, reason):
         return False
     return all([at < number for at in ground.tellers.get((library, reason[1], reason[2]), [])])
 
@@ -53,7 +51,7 @@ def is_dead_for(ground, link):
     word = reason[1]
     if other != library or further != number + 1 or not is_word(word):
         return False
-    return word in ground.counts and word != library and ground.does_fit_none(library, number, word)
+    return word in ground.counts and ground.does_fit_none(library, number, word)
 
 
 class Reasons:

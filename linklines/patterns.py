@@ -45,7 +45,7 @@ class Matcher:
         self.stars = sum([1 << at for at, token in enumerate(tokens) if token == "*"])
         self.takes = {}
         for sign in SECTION_SIGNS:
-            self.takes[sign] = sum([1 << at for at, token in enumerate(tokens) if token != "*" and sign in token])
+            self.takes[sign] = sum([1 << at for at, token in enumerate(tokens) if sign in token])
 
     def over_stars(self, places):
         """With the places behind stars that stand for no signs."""

@@ -91,7 +91,5 @@ class Play:
             self.stages[library] = "ended"
             events.append(("ended", library))
         self.scene.send_away(leavers)
-        for library in leavers:
-            del self.stages[library]
         self.begun = [library for library in self.begun if library not in leavers]
         return [*events, ("deed", deed, "closed")]

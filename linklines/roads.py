@@ -32,6 +32,11 @@ class Roads:
         self.rows = [()]
         self.steps = []
 
+    def next_halt(self):
+        """What the next number is, and the first row to it."""
+        number = len(self.steps)
+        return (self.track.halts[number], self.rows[number])
+
     def go_on(self):
         """The triples (deed, what it tells, number) from the next number on, whose rows are known then."""
         number = len(self.steps)

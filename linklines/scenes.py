@@ -78,16 +78,16 @@ class Scene:
     def done(self, deed):
         """Does a deed; tells its answer."""
         if deed[0] == "open":
-            return self.opening(*deed[1:])
-        if deed[0] == "close":
-            leavers = self.closing(deed[1])
-            if leavers is None:
-                return "not open"
-            self.send_away(leavers)
-            return "closed"
+            return self.opening(deed[1], deed[2], deed[3])
         if deed[0] == "call":
-            return self.calling(*deed[1:])
-        return self.finding(*deed[1:])
+            return self.calling(deed[1], deed[2])
+        if deed[0] == "find":
+            return self.finding(deed[1], deed[2])
+        leavers = self.closing(deed[1])
+        if leavers is None:
+            return "not open"
+        self.send_away(leavers)
+        return "closed"
 
     def opening(self, library, when, where):
         trial = self.copied()

@@ -61,11 +61,11 @@ def laid_inputs(script, line):
     if None in takers:
         raise Untaken(takers.index(None))
     outs = {rule[0]: [] for rule in script.rules()}
-    for number, (out, _, _, by) in enumerate(script.rules()):
+    for number, rule in enumerate(script.rules()):
         taken = [index for index, taker in enumerate(takers) if taker == number]
-        if by == "name":
+        if rule[3] == "name":
             taken = [index for _, index in sorted([(line[index][1], index) for index in taken])]
-        outs[out].extend(taken)
+        outs[rule[0]].extend(taken)
     return [(out, tuple(indexes)) for out, indexes in outs.items() if indexes]
 
 

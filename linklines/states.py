@@ -1,6 +1,5 @@
 """States of steady releases: good ones, the least and the greatest, upgrades."""
 
-from linklines.checks import is_word
 from linklines.errors import BadGoals
 from linklines.goodness import Goodness
 
@@ -36,5 +35,5 @@ def check_goals(ground, goals):
     if not isinstance(goals, dict):
         raise BadGoals(None)
     for library, number in goals.items():
-        if not is_word(library) or library not in ground.counts or not ground.is_number(library, number):
+        if library not in ground.counts or not ground.is_number(library, number):
             raise BadGoals(library)

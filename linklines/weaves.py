@@ -55,7 +55,7 @@ def all_weaves(world, deeds):
                     told = {**answers, (number, done): answer}
                     reached.append(((*weave, number), with_one_more(turns, number), later, told))
         waiting = reached
-    return {weave: answers for weave, _, _, answers in waiting}
+    return {halt[0]: halt[3] for halt in waiting}
 
 
 def later_neighbours(weave):

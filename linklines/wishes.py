@@ -1,14 +1,12 @@
 """Wishes: which words shall stand ahead of which, and the orders and numbers that keep them."""
 
-from linklines.checks import ascending, first_bad_word, first_not_among, is_integer_from, is_list, is_row_of, is_word
+from linklines.checks import ascending, first_bad_word, first_not_among, is_integer_from, is_list, is_row_of
 from linklines.counting import count_orders
 from linklines.errors import BadNumbers, BadOrder, BadWishes, BadWords, Ringed
 
 
 def is_wish(thing, words):
-    if not is_row_of(2, thing) or not is_word(thing[0]) or not is_word(thing[1]):
-        return False
-    return thing[0] != thing[1] and thing[0] in words and thing[1] in words
+    return is_row_of(2, thing) and thing[0] in words and thing[1] in words and thing[0] != thing[1]
 
 
 def check_wishes(words, pairs):

@@ -39,7 +39,7 @@ class World:
         bad = first_not_among(start, libraries)
         if bad is not None:
             raise BadStart(bad)
-        if not isinstance(rule, str) or rule not in RULES:
+        if rule not in RULES:
             raise BadKeeping(rule)
         self._libraries = ascending(libraries)
         self._begin = list(start)
@@ -85,7 +85,7 @@ class World:
         return is_word(thing) and thing in self._libraries
 
     def is_slot(self, library, thing):
-        return is_word(thing) and thing in self._slots[library]
+        return thing in self._slots[library]
 
     def names(self):
         """All libraries, ascending."""

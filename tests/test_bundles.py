@@ -82,6 +82,28 @@ class TestBundles(unittest.TestCase):
                 keeps = all(order.index(k) < order.index(l) for k, l in pairs)
                 self.assertIs(is_order(releases, state, goal, order), keeps)
 
+    def test_libraries_go_on_one_at_a_time_where_each_bundle_is_of_one(self):
+        seen = {True: 0, False: 0}
+        for made in steady_made(150):
+            goods = good_states(made)
+            if not goods or not is_below(goods[0], goods[-1]):
+                continue
+            for state, goal in ((goods[0], goods[-1]), (goods[len(goods) // 3], goods[-1])):
+                if not is_below(state, goal):
+                    continue
+                # going up and down, even below the state or beyond the goal
+                reached, waiting = [state], [state]
+                while waiting:
+                    one = waiting.pop()
+                    near = [other for other in goods if other not in reached
+                            and sum(one[word] != other[word] for word in one) == 1]
+                    reached.extend(near)
+                    waiting.extend(near)
+                told = bundles(Releases(made), state, goal)
+                self.assertIs(goal in reached, all(len(pack) == 1 for pack in told))
+                seen[goal in reached] += 1
+        self.assertGreater(min(seen.values()), 20, seen)
+
     def test_what_is_no_order(self):
         releases = Releases(example_42_wide())
         low, high = {"a": 1, "b": 1}, {"a": 2, "b": 2}

@@ -179,6 +179,28 @@ class TestExamples(unittest.TestCase):
         alone = {"a": Library([], [], [], ["a"])}
         self.assertIsNone(stranded_row(World(alone, [], "counted")))
 
+    def test_calls_stand_in_the_order_of_choices(self):
+        # d comes in ahead of c, and the ring needs a call of both, and both to be closed
+        made = {"b": Library(["p"], [], [], ["d"]), "c": Library(["q"], ["p", "none"]), "d": Library([], ["q", "none"])}
+        self.assertEqual(stranded_row(World(made, [], "counted")), [
+            ("open", "b", "lazy", "all"), ("open", "c", "lazy", "all"), ("call", "c", "p"), ("call", "d", "q"),
+            ("close", "b"), ("close", "c")])
+
+    def test_stranded_only_where_nothing_is_open(self):
+        # with w open a single open binds all; but w has to be closed then, and without it is as short
+        made = {"k": Library([], [], [], ["x", "y"]), "w": Library(["none"]), "x": Library(["p"], ["none", "q"]),
+                "y": Library(["q"], ["p"])}
+        told = stranded_row(World(made, [], "counted"))
+        self.assertEqual(told, [("open", "k", "lazy", "all"), ("call", "x", "q"), ("call", "y", "p"), ("close", "k")])
+        row = [("open", "w", "lazy", "all"), ("open", "k", "now", "all"), ("close", "k")]
+        self.assertTrue(is_stranded(plain_process(World(made, [], "counted"), row)))
+
+    def test_bindings_stand_by_libraries(self):
+        made = {"b": Library(["g"]), "x": Library([], ["g"], [], ["z"]), "z": Library(["g"])}
+        now = ("open", "x", "now", "all")
+        self.assertEqual(bindings(World(made, [], "loose"), "x", "g"),
+                         [("b", (("open", "b", "lazy", "all"), now)), ("z", (now,))])
+
     def test_errors(self):
         world = example_52()
         for thing in [*any_objects(), "c"]:

@@ -191,6 +191,27 @@ class TestFacts(unittest.TestCase):
         self.assertGreater(min(seen.values()), 15, seen)
 
 
+    def test_who_begins_ahead_though_there_are_rings(self):
+        seen = {True: 0, False: 0}
+        for seed in range(12):
+            dice = random.Random(seed)
+            words = ["a", "b", "c"]
+            made = {word: Library([], [], [], dice.sample(words, dice.choice([1, 1, 2]))) for word in words}
+            world = World(made, [], "loose")
+            needed = {word: needed_by(world, word) for word in words}
+            starts = Starts(world, {}, {})
+            for one, other in itertools.permutations(words, 2):
+                # along needs from the other one, over those alone that do not need it
+                behind = [other]
+                for word in behind:
+                    behind.extend(need for need in world.libraries()[word].needs()
+                                  if need not in behind and other not in needed[need])
+                if one in behind:
+                    self.assertIsNone(ahead_row(starts, one, other))
+                seen[one in behind] += 1
+        self.assertGreater(min(seen.values()), 5, seen)
+
+
 class TestExamples(unittest.TestCase):
     def test_the_example(self):
         starts = example_60()

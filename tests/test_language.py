@@ -249,6 +249,25 @@ class TestLanguage(unittest.TestCase):
                                 if isinstance(target, ast.Subscript):
                                     self.assertNotIn(ast.unparse(target.value), over, (name, node.lineno))
 
+    def test_stars_in_calls_stand_before_plain_things(self):
+        for name, tree in trees():
+            for node in ast.walk(tree):
+                if isinstance(node, ast.Call):
+                    self.assertTrue(all(word.arg is not None for word in node.keywords), (name, node.lineno))
+                    for part in node.args:
+                        if isinstance(part, ast.Starred):
+                            self.assertIsInstance(part.value, (ast.Name, ast.Attribute), (name, node.lineno))
+                if isinstance(node, ast.Subscript):
+                    inner = [part for part in ast.walk(node.slice) if isinstance(part, ast.Starred)]
+                    self.assertEqual(inner, [], (name, node.lineno))
+
+    def test_no_target_names_a_thing_twice(self):
+        for name, tree in trees():
+            for node in ast.walk(tree):
+                if isinstance(node, (ast.For, ast.comprehension)):
+                    words = [part.id for part in ast.walk(node.target) if isinstance(part, ast.Name)]
+                    self.assertEqual(len(words), len(set(words)), name)
+
     def test_raises_make_their_error_on_the_spot(self):
         errors = {node.name for name, tree in trees() if name == "errors.py" for node in tree.body
                   if isinstance(node, ast.ClassDef)}

@@ -96,6 +96,7 @@ class TestLinks(unittest.TestCase):
                 self.assertIs(is_link(releases, [*good[:4], [*good[4][:at], thing, *good[4][at + 1:]]]), False)
             self.assertIs(is_link(releases, ("a", 1, "a", 2, ("dead", thing))), False)
         for thing in [good[:4], (*good, 1), ("a", 3, "b", 2, good[4]), ("a", 2, "b", 3, good[4]), ("a", 0, "b", 2, good[4]),
+                      ("a", 2, "b", 2, ("want", "y", "v")), ("b", 2, "a", 2, ("want", "y", "u")),
                       ("a", 2, "b", 2, ("wants", "y")), ("a", 2, "b", 2, ("wants", "y", "v", "v")),
                       ("a", 2, "b", 2, "wants"), ("c", 2, "b", 2, good[4]), ("a", 2, "c", 2, good[4]),
                       ("b", 2, "a", 2, good[4]), ("a", 1, "b", 2, good[4]), ("a", 2, "b", 2, ("dead", "b"))]:
@@ -106,7 +107,8 @@ class TestLinks(unittest.TestCase):
                 "b": [([("y", "u")], []), ([], [])]}
         releases = Releases(made)
         self.assertIs(is_link(releases, ("a", 2, "a", 3, ("dead", "b"))), True)
-        for thing in [("a", 1, "a", 2, ("dead", "b")), ("a", 2, "a", 4, ("dead", "b")), ("a", 3, "a", 4, ("dead", "b")),
+        for thing in [("a", 2, "a", 3, ("dead", "b", "b")), ("a", 2, "a", 3, ("died", "b")), ("a", 2, "a", 3, ("dead",)),
+                      ("a", 1, "a", 2, ("dead", "b")), ("a", 2, "a", 4, ("dead", "b")), ("a", 3, "a", 4, ("dead", "b")),
                       ("a", 4, "a", 5, ("dead", "b")), ("a", 2, "a", 3, ("dead", "a")), ("a", 2, "b", 3, ("dead", "b")),
                       ("a", 2, "a", 2, ("dead", "b")), ("a", 2, "a", 3, ("dead", "c")), ("b", 2, "a", 3, ("dead", "b")),
                       # what a dead one wants tells nothing

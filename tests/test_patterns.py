@@ -15,7 +15,7 @@ class TestPatterns(unittest.TestCase):
                       "[ab]" * 10, "abcdefghij"]:
             self.assertIs(call_alike(self, is_pattern, thing), True, thing)
         for thing in [*any_objects(), "A", "-", "a b", "[]", "[", "]", "a]", "[a", "[[a]", "[a]]", "[aa]", "[aba]", "[A]",
-                      "[a-b]", "[?]", "[*]", "abcdefghijk", "[ab]" * 11, "*" * 11, b"a", ["a"], "\n", "a\n", "[a\n]",
+                      "[a-b]", "[ab", "a[bcd", "[a][bc", "[?]", "[*]", "abcdefghijk", "[ab]" * 11, "*" * 11, b"a", ["a"], "\n", "a\n", "[a\n]",
                       "[a]["]:
             if thing != "a" * 9:
                 self.assertIs(is_pattern(thing), False, thing)

@@ -129,7 +129,8 @@ class TestErrors(unittest.TestCase):
                 self.assertEqual(raised(Script, thing), ("BadRule", 0))
         for thing in self.bad_rules():
             self.assertEqual(raised(Script, [RULE, thing, 0]), ("BadRule", 1), thing)
-            self.assertEqual(raised(put_in, Script([RULE]), 0, thing), ("BadRule", 0))
+            for number in (0, 1):
+                self.assertEqual(raised(put_in, Script([RULE]), number, thing), ("BadRule", 0))
         self.assertIsNone(raised(Script, [RULE, ("a" * 12, "a" * 10, "b", "name"), as_lists(RULE)]))
 
     def test_no_rule(self):

@@ -261,7 +261,10 @@ class TestPartingRows(unittest.TestCase):
             other = World(libraries, ["a"], "loose")
             self.assertEqual(raised(parting_row, world, other), ("UnlikeWorlds",))
             self.assertEqual(raised(parting_row, other, world), ("UnlikeWorlds",))
-        # to want is as good as to ask
+        # to want is as good as to ask, also where a library does both
+        pair = [World({"a": Library([], refs, [name])}, [], "loose") for refs, name in ((["f"], "g"), (["g"], "f"))]
+        self.assertEqual(parting_row(*pair), [("open", "a", "now", "all")])
+        self.assertEqual([Process(world, parting_row(*pair)).answers()[0][2] for world in pair], ["f", "g"])
         self.assertIsNone(raised(parting_row, world, World({**made, "a": Library([], [], ["f", "g"])}, [], "loose")))
 
 

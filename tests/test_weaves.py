@@ -4,6 +4,7 @@ import itertools
 import random
 import unittest
 
+from linklines.objects import Library
 from linklines.processes import Process
 from linklines.weaves import race, woven
 from linklines.worlds import World
@@ -78,6 +79,12 @@ class TestWeaves(unittest.TestCase):
         self.assertEqual(told, [(("opened",), ("nobody", ("to", "b"))),
                                 (("closed", "not open"), ("gone", "nobody", ("to", "b")))])
         self.assertEqual(call_alike(self, race, example_52(), rows), ((0, 0, 1, 1), (0, 1, 0, 1)))
+
+    def test_tuples_stand_ascending(self):
+        made = {"a": Library([], ["g"]), "b": Library(["g"]), "c": Library(["g"])}
+        rows = [[("open", "c", "lazy", "all"), CALL], [("open", "b", "lazy", "all")]]
+        self.assertEqual(woven(World(made, ["a"], "loose"), rows),
+                         [(("opened",), (("to", "b"), ("to", "c"))), (("opened",),)])
 
     def test_ways_to_call(self):
         rows = [[OPEN, ("find", "b", "g")], [], [("find", "a", "f")]]

@@ -17,7 +17,7 @@ def random_wishes(seed, most=5, chance=0.3, ring=False):
     words = dice.sample("abcdefgh"[:most + 1], dice.randint(0, most))
     pairs = [(one, other) for at, one in enumerate(words) for other in words[at + 1:] if dice.random() < chance]
     if ring:
-        pairs = [pair if dice.random() < 0.7 else pair[::-1] for pair in pairs]
+        pairs = [pair for pair in itertools.permutations(words, 2) if dice.random() < chance]
     dice.shuffle(words)
     dice.shuffle(pairs)
     return words, pairs + pairs[:1]
@@ -70,7 +70,7 @@ class TestWishes(unittest.TestCase):
     def test_rings(self):
         found = 0
         for seed in range(200):
-            words, pairs = random_wishes(seed, 5, 0.6, True)
+            words, pairs = random_wishes(seed, 5, 0.2 + seed % 3 / 10, True)
             wishes = Wishes(words, pairs)
             ring = next(all_rings(words, pairs), None)
             self.assertEqual(wish_ring(wishes), ring)
@@ -82,6 +82,7 @@ class TestWishes(unittest.TestCase):
                     self.assertEqual(raised(function, wishes, *[None] * many), ("Ringed", ring))
         self.assertGreater(found, 15)
         self.assertEqual(call_alike(self, wish_ring, Wishes(list("cab"), [("c", "a"), ("a", "c")])), ["a", "c"])
+        self.assertEqual(wish_ring(Wishes(list("abc"), [("a", "c"), ("a", "b"), ("c", "a"), ("b", "a")])), ["a", "b"])
         # the shorter one, though another one is earlier by its words
         self.assertEqual(wish_ring(Wishes(list("abcde"), [("a", "b"), ("b", "c"), ("c", "a"), ("e", "d"), ("d", "e")])),
                          ["d", "e"])
