@@ -85,7 +85,8 @@ class Play:
         if leavers is None:
             return [("deed", deed, "not open")]
         events = []
-        for library in [library for library in self.begun[::-1] if library in leavers]:
+        ending = [library for library in self.begun[::-1] if library in leavers]
+        for library in ending:
             events.append(("ends", library))
             events.extend(self.calls("last", library, self.script.ends()[library]))
             self.stages[library] = "ended"
