@@ -1,6 +1,5 @@
-"""Patterns and scripts at random from a seed, and patterns matched by Python's own."""
+"""Patterns and scripts at random from given dice, and patterns matched by Python's own."""
 
-import random
 import re
 
 from linklines.scripts import Script

@@ -10,7 +10,7 @@ from linklines.starts import Starts
 from linklines.worlds import World
 from tests.course_tools import example_60, plain_course, random_starts
 from tests.tools import any_objects, as_lists, as_tuples, raised, spoil
-from tests.world_tools import OPEN, example_52, plain_process, random_row, random_world
+from tests.world_tools import OPEN, example_52, random_row, random_world
 
 
 def told_by(process):

@@ -4,9 +4,11 @@ import itertools
 import random
 import unittest
 
-from linklines.bundles import bundles
+from linklines.bundles import ahead, bundles
+from linklines.clients import lasting
 from linklines.links import is_link, is_why, why
 from linklines.releases import Releases
+from linklines.states import good_above, upgraded
 from tests.release_tools import (does_fit_any, example_42, example_42_wide, good_states, is_below, is_dead, steady_made)
 from tests.tools import any_objects, as_lists, as_tuples, call_alike, raised
 
@@ -180,6 +182,30 @@ class TestWhy(unittest.TestCase):
             self.assertEqual(why(wide, low, high, number), [])
             self.assertIs(is_why(wide, low, high, number, []), True)
             self.assertIs(is_why(wide, low, high, number, [0]), False)
+
+    def test_at_the_limits(self):
+        # six libraries of eight releases in a ring, each wanting what stands just beside it of the next two
+        words, signs = "abcdef", "stuvwxyz"
+        made = {}
+        for at, word in enumerate(words):
+            made[word] = []
+            for number in range(8):
+                beside = range(max(0, number - 1), min(8, number + 5))
+                tells = [("p", signs[n]) for n in beside]
+                wants = [(words[(at + 1) % 6], "p", signs[number])] + [(words[(at + 2) % 6], "p", signs[n])
+                                                                      for n in list(beside)[:5] if n == number]
+                made[word].append((tells, wants))
+        releases = Releases(made)
+        low, high = {word: 1 for word in words}, {word: 8 for word in words}
+        packs = bundles(releases, low, high)
+        self.assertGreater(len(packs), 7)
+        self.assertEqual(good_above(releases, {**low, "c": 8})["c"], 8)
+        self.assertEqual(upgraded(releases, low, high), high)
+        self.assertEqual(lasting(releases, low, [(word, "p", "t") for word in words]), {word: 3 for word in words})
+        for number in range(len(packs)):
+            told = why(releases, low, high, number)
+            self.assertIs(is_why(releases, low, high, number, told), True)
+        self.assertTrue(all(one < other for one, other in ahead(releases, low, high)))
 
     def test_no_bundle(self):
         wide = Releases(example_42_wide())

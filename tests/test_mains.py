@@ -1,6 +1,5 @@
 """Promises 19 and 20: mains, faces, clear rows."""
 
-import itertools
 import random
 import unittest
 

@@ -7,7 +7,8 @@ from linklines.objects import Library
 from linklines.processes import Process
 from linklines.worlds import World
 from tests.tools import any_objects, as_lists, as_tuples, raised, spoil
-from tests.world_tools import (CALL, OPEN, RULES, Plain, example_52, plain_process, random_row, random_world, ring_52)
+from tests.world_tools import (CALL, OPEN, RULES, example_52, plain_process, random_libraries, random_row, random_world,
+                               ring_52)
 
 
 def told_by(process):
@@ -61,6 +62,16 @@ class TestProcesses(unittest.TestCase):
             # two ways from one process
             kept[0].more(rows[2])
             self.assertEqual(told[0], (kept[0].answers(), *told_by(kept[0])))
+
+    def test_rows_of_sixty_deeds(self):
+        for seed in range(6):
+            dice = random.Random(seed)
+            world = World(random_libraries(dice, list("abcdefgh"), list("klmnopqr"), 6), ["c"], dice.choice(RULES))
+            row = [*random_row(dice, world, 60), *random_row(dice, world, 60)][:60]
+            self.assertEqual(len(row), 60)
+            plain = plain_process(world, row)
+            self.assertEqual(Process(world, row).answers(), plain.answers)
+            self.assertEqual(told_by(Process(world, row)), plainly_told(plain))
 
     def test_what_is_told_is_new(self):
         process = Process(example_52(), [OPEN, CALL])

@@ -66,7 +66,7 @@ class TestClasses(unittest.TestCase):
         self.assertGreater(several, 10)
 
     def test_the_greatest_lengths(self):
-        script = Script([("x", "?" * 8, "?" * 10 + "", "line"), ("x", "?" * 9, "*" + "?" * 9, "line")])
+        script = Script([("x", "?" * 8, "?" * 10, "line"), ("x", "?" * 9, "*" + "?" * 9, "line")])
         self.assertEqual(call_alike(self, file_classes, script), [((), "a"), ((0,), "a" * 8)])
         self.assertEqual(call_alike(self, name_classes, script), [((), "."), ((1,), "." * 9), ((0, 1), "." * 10)])
         script = Script([("x", "aaaaaaaa*", "bbb*bbbbbb", "line"), ("x", "*a?aaaaaaa", "*", "line")])
