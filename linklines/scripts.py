@@ -42,10 +42,6 @@ class Script:
                 return number
         return None
 
-    def matchers_of(self, part):
-        """Those of the file patterns (0), or of the name patterns (1), rule by rule."""
-        return [pair[part] for pair in self._matchers]
-
 
 def laid(script, line):
     if not is_list(line):
@@ -73,10 +69,14 @@ def laid_program(script, program):
     return laid_inputs(script, [(who[0], section[0]) for who, _, section in program.sections()])
 
 
-def put_in(script, number, rule):
-    rules = script.rules()
-    if not is_integer_from(0, number) or number > len(rules):
+def check_put_in(script, number, rule):
+    if not is_integer_from(0, number) or number > len(script.rules()):
         raise NoRule(number)
     if not is_rule(rule):
         raise BadRule(0)
+
+
+def put_in(script, number, rule):
+    check_put_in(script, number, rule)
+    rules = script.rules()
     return Script([*rules[:number], rule, *rules[number:]])

@@ -125,7 +125,7 @@ class TestLanguage(unittest.TestCase):
                     bound.append(node.targets[0].id)
                     worth = ast.literal_eval(node.value)
                     parts = list(worth.values()) if isinstance(worth, dict) else worth
-                    self.assertTrue(isinstance(parts, str) or not any(isinstance(p, (list, dict)) for p in parts))
+                    self.assertTrue(isinstance(parts, (str, int)) or not any(isinstance(p, (list, dict)) for p in parts))
                 else:
                     self.assertIsInstance(node, ast.Expr)
                     self.assertIsInstance(node.value.value, str)

@@ -1,0 +1,111 @@
+"""Scripts that lay all lines alike, what can be left out of them and what can be put in."""
+
+from linklines.checks import is_integer_from, is_list
+from linklines.errors import BadRule, BadRules
+from linklines.likeness import Likeness
+from linklines.pools import Pool
+from linklines.scripts import check_put_in, is_rule
+
+
+def likeness_of(one, other):
+    rules = one.rules()
+    further = other.rules()
+    many = len(rules)
+    return Likeness(Pool([*rules, *further]), range(many), range(many, many + len(further)))
+
+
+def are_alike(one, other):
+    likeness = likeness_of(one, other)
+    return likeness.are_alike(likeness.pool.spans_shared())
+
+
+def parting(one, other):
+    return likeness_of(one, other).first_line()
+
+
+def as_others(one, other):
+    return first_elsewhere(one, other) is None
+
+
+def first_elsewhere(one, other):
+    likeness = likeness_of(one, other)
+    return likeness.first_elsewhere(likeness.pool.first_shared())
+
+
+def check_numbers(script, numbers):
+    if not is_list(numbers):
+        raise BadRules(0)
+    many = len(script.rules())
+    seen = {}
+    for index, thing in enumerate(numbers):
+        if not is_integer_from(0, thing) or thing >= many or thing in seen:
+            raise BadRules(index)
+        seen[thing] = True
+
+
+def without(many, numbers):
+    return [number for number in range(many) if number not in numbers]
+
+
+def can_be_left_out(script, numbers):
+    check_numbers(script, numbers)
+    pool = Pool(script.rules())
+    return can_be_spared(pool, pool.spans_shared(), numbers)
+
+
+def can_be_spared(pool, spans, numbers):
+    """Whether some rule is left and all lines are laid by those left as by all."""
+    many = len(pool.kept_rules)
+    left = without(many, numbers)
+    return len(left) > 0 and Likeness(pool, range(many), left).are_alike(spans)
+
+
+def left_out(script):
+    pool = Pool(script.rules())
+    spans = pool.spans_shared()
+    many = len(pool.kept_rules)
+    greatest = []
+    # lots with more bits come first, so that none found is within a later one
+    for lot in sorted([(-sum([1 for at in range(many) if bits & (1 << at)]), bits) for bits in range(1 << many)]):
+        numbers = tuple([at for at in range(many) if lot[1] & (1 << at)])
+        if not is_within_any(numbers, greatest) and can_be_spared(pool, spans, numbers):
+            greatest.append(numbers)
+    return sorted(greatest)
+
+
+def is_within_any(numbers, lots):
+    return any([all([number in lot for number in numbers]) for lot in lots])
+
+
+def bars_out(script, numbers):
+    check_numbers(script, numbers)
+    pool = Pool(script.rules())
+    many = len(pool.kept_rules)
+    return Likeness(pool, range(many), without(many, numbers)).first_line()
+
+
+def places_for(script, rule):
+    if not is_rule(rule):
+        raise BadRule(0)
+    rules = script.rules()
+    many = len(rules)
+    pool = Pool([*rules, rule])
+    spans = pool.spans_shared()
+    places = []
+    for number in range(many + 1):
+        order = [*range(number), many, *range(number, many)]
+        if Likeness(pool, range(many), order).are_alike(spans):
+            places.append(number)
+    return places
+
+
+def takes_from(script, number, rule):
+    check_put_in(script, number, rule)
+    rules = script.rules()
+    many = len(rules)
+    losers = {}
+    for lot in Pool([*rules, rule]).first_shared():
+        taken = [at for at in range(many) if lot & (1 << at)]
+        if lot & (1 << many) and taken and taken[0] >= number:
+            losers[taken[0]] = True
+    return sorted(losers)
