@@ -17,11 +17,11 @@ def laid_from(aligns, lengths):
 
 
 def aligns_of(program):
-    return [section[2] for _, _, section in program.sections()]
+    return [entry[2][2] for entry in program.sections()]
 
 
 def lengths_of(program):
-    return [length_of(section) for _, _, section in program.sections()]
+    return [length_of(entry[2]) for entry in program.sections()]
 
 
 class Image:

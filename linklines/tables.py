@@ -4,7 +4,7 @@ from linklines.reading import Reading, shelf_of
 
 
 class Table:
-    """Stands by number: first lines, outcomes, and for each file the number to which it leads."""
+    """Stands by number: first lines, outcomes, for each file the number to which it leads and who is taken on the way."""
 
     def __init__(self, store):
         self.file_names = store.files()
@@ -12,8 +12,10 @@ class Table:
         self.all_stands = []
         self.all_outcomes = []
         self.all_ways = []
+        self.all_comers = []
         self.number_of = {}
-        readings = [Reading(shelf_of(store))]
+        self.shelf = shelf_of(store)
+        readings = [Reading(self.shelf)]
         self.enter(readings[0], ())
         at = 0
         while at < len(readings):
@@ -29,10 +31,21 @@ class Table:
         self.all_stands.append(stand)
         self.all_outcomes.append(reading.outcome())
         self.all_ways.append({})
+        self.all_comers.append({})
+
+    def cards(self):
+        """The dict from all who can be taken to what is known of them."""
+        found = {}
+        for sort, held in self.shelf.values():
+            cards = {"object": [held], "archive": held}.get(sort, [])
+            found.update({card.who: card for card in cards})
+        return found
 
     def follow(self, readings, at, name):
         reading = readings[at].branch()
+        many = len(reading.taken_cards)
         reading.read(name)
+        self.all_comers[at][name] = list(reading.taken_cards)[many:]
         stand = reading.stand()
         if stand not in self.number_of:
             self.enter(reading, (*self.first_lines[at], name))
