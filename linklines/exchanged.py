@@ -11,10 +11,10 @@ class Views:
 
     def __init__(self, store, file):
         self.table = Table(store)
-        self.others = {}
-        for who, card in self.table.cards().items():
+        self.heard_words = {}
+        for who, card in self.table.all_cards().items():
             if who != (file, None):
-                self.others[who] = [*card.definitions, *card.wanted, *card.asked]
+                self.heard_words[who] = [*card.definitions, *card.wanted, *card.asked]
         self.seen = [self.view(number) for number in range(len(self.table.all_stands))]
 
     def view(self, number):
@@ -24,13 +24,13 @@ class Views:
             return end
         heard = {}
         for who in self.table.all_stands[number][0]:
-            heard.update({name: True for name in self.others.get(who, [])})
+            heard.update({name: True for name in self.heard_words.get(who, [])})
         return ("links", tuple([(name, meaning[1]) for name, meaning in end[1] if name in heard]))
 
     def led(self, number, name):
         """The number to which a file leads, and the others who come then, in order."""
         comers = self.table.all_comers[number][name]
-        return (self.table.all_ways[number][name], [who for who in comers if who in self.others])
+        return (self.table.all_ways[number][name], [who for who in comers if who in self.heard_words])
 
 
 def lead_behind(lead, comers, further):

@@ -22,7 +22,7 @@ class NameTable:
             check_number(number)
         self._words = list(words)
         self._measures = (factor, modulo, buckets, spots)
-        self._numbers = [self.number(word) for word in words]
+        self._numbers = [self.number_of_word(word) for word in words]
         self._marked = {spot: True for number in self._numbers for spot in self.spots_of(number)}
         self._many_of = {}
         self._many_in = {}
@@ -41,8 +41,8 @@ class NameTable:
         if not is_word(word):
             raise BadWord(word)
         if word not in self._words:
-            return (None, self.steps_of(self.number(word)))
-        number = self.number(word)
+            return (None, self.steps_of(self.number_of_word(word)))
+        number = self.number_of_word(word)
         place = self._words.index(word)
         mates = [other for other in self._numbers[:place + 1] if self.bucket_of(other) == self.bucket_of(number)]
         return (place, len(mates) + mates.count(number))
@@ -51,7 +51,7 @@ class NameTable:
         """The factor, the modulo, the numbers of buckets and of spots."""
         return self._measures
 
-    def number(self, word):
+    def number_of_word(self, word):
         number = 0
         for sign in word:
             number = (self._measures[0] * number + worth_of(sign)) % self._measures[1]
@@ -85,7 +85,7 @@ def check_length(length):
 
 def numbers_at(table, length):
     check_length(length)
-    counts = walk_of(table).counts(length)
+    counts = walk_of(table).many_of_length(length)
     return {numbers[0]: counts[numbers] for numbers in sorted(counts)}
 
 
@@ -103,7 +103,7 @@ def mean_steps(table, length):
     counts = numbers_at(table, length)
     total = sum([many * table.steps_of(number) for number, many in counts.items()])
     for word in words_at(table, length):
-        total += table.find(word)[1] - table.steps_of(table.number(word))
+        total += table.find(word)[1] - table.steps_of(table.number_of_word(word))
     every = sum(list(counts.values()))
     shared = gcd(total, every)
     return (total // shared, every // shared)
@@ -119,7 +119,7 @@ def steps_of_others(table, walk):
     """The dict from the numbers that some word has that is not in the table to the steps that such a word takes."""
     told = {}
     for length in LENGTHS:
-        counts = walk.counts(length)
+        counts = walk.many_of_length(length)
         for word in words_at(table, length):
             counts[walk.behind(word)] -= 1
         told.update({numbers: table.steps_of(numbers[0]) for numbers, many in counts.items() if many > 0})
@@ -130,7 +130,7 @@ def most_steps(table):
     walk = walk_of(table)
     others = steps_of_others(table, walk)
     own = {word: table.find(word)[1] for word in table.words()}
-    most = max([*others.values(), *own.values()])
+    most = max(list(others.values()) + list(own.values()))
     found = [word for word, steps in own.items() if steps == most]
     other = walk.first_word({numbers: True for numbers, steps in others.items() if steps == most}, table.words())
     if other is not None:
@@ -164,7 +164,7 @@ def least_buckets(words, factor, modulo, most):
     for number in (factor, modulo, most):
         check_number(number)
     table = NameTable(words, factor, modulo, 1, 1)
-    numbers = [table.number(word) for word in words]
+    numbers = [table.number_of_word(word) for word in words]
     if any([numbers.count(number) > most for number in numbers]):
         return None
     lots = []

@@ -18,8 +18,8 @@ class NumberWalk:
     """Where each letter leads from the numbers that a word has so far, one for each pair (factor, modulo)."""
 
     def __init__(self, measures):
-        self.measures = list(measures)
-        self.begin = tuple([0 for _ in self.measures])
+        self.factors = list(measures)
+        self.begin = tuple([0 for _ in self.factors])
         self.nexts = {}
         waiting = [self.begin]
         for _ in LENGTHS:
@@ -35,7 +35,7 @@ class NumberWalk:
         return [*self.nexts, *self.last]
 
     def follow(self, numbers, letter):
-        return tuple([(factor * at + letter) % modulo for at, (factor, modulo) in zip(numbers, self.measures)])
+        return tuple([(factor * at + letter) % modulo for at, (factor, modulo) in zip(numbers, self.factors)])
 
     def behind(self, word):
         numbers = self.begin
@@ -43,7 +43,7 @@ class NumberWalk:
             numbers = self.follow(numbers, worth_of(sign))
         return numbers
 
-    def counts(self, length):
+    def many_of_length(self, length):
         """The dict from the numbers that words of a length have to how many have them."""
         many = {self.begin: 1}
         for _ in range(length):

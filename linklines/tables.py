@@ -33,7 +33,7 @@ class Table:
         self.all_ways.append({})
         self.all_comers.append({})
 
-    def cards(self):
+    def all_cards(self):
         """The dict from all who can be taken to what is known of them."""
         found = {}
         for sort, held in self.shelf.values():

@@ -23,10 +23,10 @@ NOT_NAMES = set("""attrgetter breakpoint builtins compile copyright credits dela
 hasattr help id importlib license locals methodcaller os quit setattr super type vars sys""".split())
 NOT_WORDS = set("""type typing typing_extensions enum Enum IntEnum StrEnum Flag IntFlag Generic Protocol ABC ABCMeta
 namedtuple NamedTuple TypedDict TYPE_CHECKING abstractmethod _wall _WallAttr""".split())
-STATEMENTS = (ast.Assign, ast.AugAssign, ast.If, ast.While, ast.For, ast.Return, ast.Break, ast.Continue, ast.Pass,
+STATEMENTS = (ast.Assign, ast.Try, ast.AugAssign, ast.If, ast.While, ast.For, ast.Return, ast.Break, ast.Continue, ast.Pass,
               ast.Raise, ast.Expr, ast.FunctionDef, ast.Delete, ast.ClassDef, ast.ImportFrom)
 NOT_NODES = (ast.Set, ast.SetComp, ast.GeneratorExp, ast.JoinedStr, ast.Lambda, ast.Yield, ast.Await, ast.NamedExpr,
-             ast.Div, ast.Try, ast.With, ast.Global, ast.Nonlocal)
+             ast.Div, ast.With, ast.Global, ast.Nonlocal)
 AT_ONCE = {"zip", "enumerate", "reversed", "items", "keys", "values", "permutations"}
 CHANGING = {"append", "clear", "extend", "insert", "pop", "remove", "reverse", "setdefault", "update"}
 
@@ -176,7 +176,7 @@ class TestLanguage(unittest.TestCase):
                     words = list(stored_names(node))
                 for word in words:
                     self.assertNotIn(word, barred | NOWHERE | NOT_NAMES, name)
-                    self.assertTrue(word in ("__init__", "__eq__", "_") or re.match(r"^_?[A-Za-z]\w*$", word), word)
+                    self.assertTrue(word in ("__init__", "__eq__", "__len__", "_") or re.match(r"^_?[A-Za-z]\w*$", word), word)
                 if isinstance(node, ast.Attribute):
                     self.assertNotIn(node.attr, NOWHERE, name)
                 if isinstance(node, ast.Name) and isinstance(node.ctx, ast.Load):
@@ -194,7 +194,8 @@ class TestLanguage(unittest.TestCase):
         methods, attributes = own_methods(), own_attributes()
         self.assertEqual(methods & attributes, set())
         theirs = {word for made in (str, int, list, dict, set, bytes) for word in dir(made)}
-        self.assertEqual((methods - {"__init__", "__eq__"}) & theirs, set())
+        # L26 lets methods have the names of the methods of builtin values
+        self.assertLessEqual((methods - {"__init__", "__eq__", "__len__"}) & theirs, METHODS)
         self.assertLessEqual(attributes & theirs, ATTRIBUTES)
         for name, tree in trees():
             called = {id(node.func) for node in ast.walk(tree) if isinstance(node, ast.Call)}
@@ -260,6 +261,18 @@ class TestLanguage(unittest.TestCase):
                 if isinstance(node, ast.Subscript):
                     inner = [part for part in ast.walk(node.slice) if isinstance(part, ast.Starred)]
                     self.assertEqual(inner, [], (name, node.lineno))
+
+    def test_tries_catch_own_errors_and_end_in_assignments(self):
+        own = {node.name for name, tree in trees() if name == "errors.py" for node in tree.body
+               if isinstance(node, ast.ClassDef)}
+        for name, tree in trees():
+            for node in ast.walk(tree):
+                if isinstance(node, ast.Try):
+                    self.assertLessEqual({handler.type.id for handler in node.handlers}, own, name)
+                    for part in node.finalbody:
+                        self.assertIsInstance(part, ast.Assign, name)
+                        told = [each for each in ast.walk(part.value) if isinstance(each, ast.expr)]
+                        self.assertTrue(all(isinstance(each, (ast.Name, ast.Tuple)) for each in told), name)
 
     def test_no_target_names_a_thing_twice(self):
         for name, tree in trees():
