@@ -2,19 +2,19 @@
 
 from linklines.checks import is_integer, is_list
 from linklines.counting import count_orders
-from linklines.journeys import Journey
+from linklines.journeys import journey_of
 
 
 def bundles(releases, state, goal):
-    return Journey(releases, state, goal).packs
+    return [dict(pack) for pack in journey_of(releases, state, goal).packs]
 
 
 def ahead(releases, state, goal):
-    return Journey(releases, state, goal).pairs_ahead()
+    return journey_of(releases, state, goal).pairs_ahead()
 
 
 def is_order(releases, state, goal, thing):
-    journey = Journey(releases, state, goal)
+    journey = journey_of(releases, state, goal)
     many = len(journey.packs)
     if not is_list(thing) or not all([is_integer(number) for number in thing]):
         return False
@@ -25,7 +25,7 @@ def is_order(releases, state, goal, thing):
 
 
 def how_many_orders(releases, state, goal):
-    journey = Journey(releases, state, goal)
+    journey = journey_of(releases, state, goal)
     many = len(journey.packs)
     barred = [0] * many
     for one, other in journey.pairs_ahead():

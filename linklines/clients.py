@@ -2,7 +2,7 @@
 
 from linklines.checks import is_integer, is_integer_from, is_list, is_row_of
 from linklines.errors import BadChange, BadClient, NotServed, Unsteady
-from linklines.goodness import Goodness
+from linklines.goodness import ground_of
 from linklines.releases import is_words_row, unsteady
 
 
@@ -21,7 +21,7 @@ def is_told_at(ground, state, triple):
 
 
 def served(releases, state, client):
-    ground = Goodness(releases)
+    ground = ground_of(releases)
     known = ground.checked_state(state)
     check_client(ground, client)
     return all([is_told_at(ground, known, triple) for triple in client])
@@ -36,7 +36,7 @@ def stands_for(releases, library, newer, elder):
 
 
 def lasting(releases, state, client):
-    ground = Goodness(releases)
+    ground = ground_of(releases)
     known = ground.checked_state(state)
     check_client(ground, client)
     ground.check_good(known, state)

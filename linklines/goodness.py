@@ -5,13 +5,22 @@ from linklines.errors import BadState, NotGood, Unsteady
 from linklines.releases import unsteady
 
 
+def ground_of(releases):
+    """What fits what among releases, found once for each of them; Unsteady."""
+    if unsteady(releases) is not None:
+        raise Unsteady()
+    if releases.ground is None:
+        releases.ground = Goodness(releases)
+    return releases.ground
+
+
 class Goodness:
-    """For each release what it wants of each other library, and the releases there that fit; Unsteady."""
+    """For each release what it wants of each other library, and the releases there that fit."""
 
     def __init__(self, releases):
-        if unsteady(releases) is not None:
-            raise Unsteady()
         self.counts = releases.libraries()
+        self.limits = {library: {} for library in self.counts}
+        self.journey = None
         self.tellers = {}
         self.wanted = {}
         self.spans = {}
@@ -21,6 +30,7 @@ class Goodness:
         for library in self.counts:
             for number in range(1, self.counts[library] + 1):
                 self.measure(library, number)
+                self.limits[library][number] = self.limits_of(library, number)
 
     def learn(self, releases, library):
         for number in range(1, self.counts[library] + 1):
@@ -39,6 +49,17 @@ class Goodness:
                 self.spans[(library, number, other)] = (first, last)
             else:
                 self.barren[(library, number)] = other
+
+    def limits_of(self, library, number):
+        """The triples (library, from, to) by which a release lets others not be any release; None for a dead one."""
+        if self.is_dead(library, number):
+            return None
+        limits = []
+        for other in self.counts:
+            first, last = self.spans[(library, number, other)]
+            if first[0] > 1 or last[0] < self.counts[other]:
+                limits.append((other, first[0], last[0]))
+        return limits
 
     def pairs_wanted(self, library, number, other):
         return self.wanted.get((library, number, other), [])
@@ -88,30 +109,33 @@ class Goodness:
             raise NotGood(thing)
 
     def is_good_state(self, state):
-        return self.first_link(state) is None
+        for library, number in state.items():
+            limits = self.limits[library][number]
+            if limits is None:
+                return False
+            for other, low, high in limits:
+                if not low <= state[other] <= high:
+                    return False
+        return True
 
     def first_link(self, state):
         """A link that leads on from a state, perhaps behind the last release, None if the state is good."""
-        for library in self.counts:
-            number = state[library]
-            if self.is_dead(library, number):
+        for library, number in state.items():
+            if self.limits[library][number] is None:
                 return (library, number, library, number + 1, ("dead", self.barren[(library, number)]))
-        for library in self.counts:
-            for other in self.counts:
-                link = self.link_between(state, library, other)
-                if link is not None:
-                    return link
+        for library, number in state.items():
+            for other, low, high in self.limits[library][number]:
+                if not low <= state[other] <= high:
+                    return self.link_between(state, library, other)
         return None
 
     def link_between(self, state, library, other):
-        """A link that follows from what the release of a library, not a dead one, wants of another one."""
+        """The link that follows from what the release of a library wants of another one, whose release does not fit."""
         number = state[library]
         first, last = self.spans[(library, number, other)]
         if state[other] < first[0]:
             return (library, number, other, first[0], ("wants", *first[1]))
-        if state[other] > last[0]:
-            return (other, last[0] + 1, library, number + 1, ("wanted", *last[1]))
-        return None
+        return (other, last[0] + 1, library, number + 1, ("wanted", *last[1]))
 
     def lifted(self, state):
         """The least good state nowhere below a state, and the links that lead there; None if there is none."""

@@ -1,28 +1,38 @@
 """From one good state to another one above it: the bundles of changes, and which stand ahead of which."""
 
 from linklines.errors import NotAbove
-from linklines.goodness import Goodness
+from linklines.goodness import ground_of
+
+
+def journey_of(releases, state, goal):
+    """The journey from a state to a goal; the last one is kept. BadState, NotGood, NotAbove."""
+    ground = ground_of(releases)
+    origin = ground.checked_state(state)
+    target = ground.checked_state(goal)
+    ground.check_good(origin, state)
+    ground.check_good(target, goal)
+    for library in origin:
+        if target[library] < origin[library]:
+            raise NotAbove(library)
+    journey = ground.journey
+    if journey is None or journey.origin != origin or journey.target != target:
+        journey = Journey(ground, origin, target)
+        ground.journey = journey
+    return journey
 
 
 class Journey:
-    """The bundles from a state to a goal, in the first order that can be; BadState, NotGood, NotAbove."""
+    """The bundles from a good state to one above it, in the first order that can be."""
 
-    def __init__(self, releases, state, goal):
-        self.ground = Goodness(releases)
-        self.origin = self.ground.checked_state(state)
-        self.target = self.ground.checked_state(goal)
-        self.ground.check_good(self.origin, state)
-        self.ground.check_good(self.target, goal)
-        self.check_above()
-        self.halts = [self.origin]
+    def __init__(self, ground, origin, target):
+        self.ground = ground
+        self.origin = origin
+        self.target = target
+        self.halts = [origin]
         self.packs = []
+        self.known_pairs = None
         while self.halts[-1] != self.target:
             self.add_bundle()
-
-    def check_above(self):
-        for library in self.origin:
-            if self.target[library] < self.origin[library]:
-                raise NotAbove(library)
 
     def add_bundle(self):
         """Goes on to that next good state for which the fewest, then the first libraries change."""
@@ -44,6 +54,11 @@ class Journey:
         return [all([reached[library] >= change[1] for library, change in pack.items()]) for pack in self.packs]
 
     def pairs_ahead(self):
+        if self.known_pairs is None:
+            self.known_pairs = self.found_pairs()
+        return list(self.known_pairs)
+
+    def found_pairs(self):
         pairs = []
         for number in range(len(self.packs)):
             marks = self.fewest_behind(number)

@@ -2,12 +2,12 @@
 
 from linklines.checks import is_integer_from, is_list, is_row_of, is_word
 from linklines.errors import NoBundle
-from linklines.goodness import Goodness
-from linklines.journeys import Journey
+from linklines.goodness import ground_of
+from linklines.journeys import journey_of
 
 
 def is_link(releases, thing):
-    return is_link_on(Goodness(releases), thing)
+    return is_link_on(ground_of(releases), thing)
 
 
 def is_link_on(ground, thing):
@@ -58,7 +58,7 @@ class Reasons:
     """One bundle on the way to a goal, and the states from which links have to lead it on."""
 
     def __init__(self, releases, state, goal, number):
-        journey = Journey(releases, state, goal)
+        journey = journey_of(releases, state, goal)
         if not is_integer_from(0, number) or number >= len(journey.packs):
             raise NoBundle(number)
         self.ground = journey.ground

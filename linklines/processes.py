@@ -36,7 +36,7 @@ class Process:
         return {library: self._scene.counts[library] for library in sorted(self._scene.counts)}
 
     def slots(self):
-        return {slot: self._scene.ties[slot] for slot in sorted(self._scene.ties)}
+        return {slot: tie for slot, tie in sorted(self._scene.all_slots())}
 
 
 def process_of(scene, answers):

@@ -49,6 +49,9 @@ class Releases:
         for name in sorted(libraries):
             kept = libraries[name]
             self._releases[name] = [(sorted_rows(tells), sorted_rows(wants)) for tells, wants in kept]
+        # found once, when it is first asked for: it hangs on the releases alone
+        self._faults = []
+        self.ground = None
 
     def __eq__(self, other):
         return isinstance(other, Releases) and self._releases == other._releases
@@ -61,6 +64,12 @@ class Releases:
         self.check_number(library, number)
         tells, wants = self._releases[library][number - 1]
         return (list(tells), list(wants))
+
+    def first_fault(self):
+        """What unsteady tells."""
+        if not self._faults:
+            self._faults.append(found_unsteady(self))
+        return self._faults[0]
 
     def check_library(self, library):
         if not is_word(library) or library not in self._releases:
@@ -128,6 +137,10 @@ def step_back(releases, library):
 
 
 def unsteady(releases):
+    return releases.first_fault()
+
+
+def found_unsteady(releases):
     for library in releases.libraries():
         pair = gap_of(releases, library)
         if pair is not None:

@@ -9,19 +9,26 @@ class Track:
     def __init__(self, begin):
         self.halts = [begin]
         self.numbers = {begin.mark(): 0}
-        self.known = {}
+        self.known = [{}]
+
+    def step(self, number, deed):
+        """What a deed tells there, and the number of what it leads to."""
+        halt = self.halts[number].copied()
+        told = halt.done(deed)
+        mark = halt.mark()
+        if mark not in self.numbers:
+            self.numbers[mark] = len(self.halts)
+            self.halts.append(halt)
+            self.known.append({})
+        return (told, self.numbers[mark])
 
     def led(self, number, deed):
-        """What a deed tells there, and the number of what it leads to."""
-        if (number, deed) not in self.known:
-            halt = self.halts[number].copied()
-            told = halt.done(deed)
-            mark = halt.mark()
-            if mark not in self.numbers:
-                self.numbers[mark] = len(self.halts)
-                self.halts.append(halt)
-            self.known[(number, deed)] = (told, self.numbers[mark])
-        return self.known[(number, deed)]
+        """The same of scenes, each step being done once."""
+        known = self.known[number]
+        if deed not in known:
+            answer = self.halts[number].idle_answer(deed)
+            known[deed] = self.step(number, deed) if answer is None else (answer, number)
+        return known[deed]
 
 
 class Roads:
@@ -43,7 +50,7 @@ class Roads:
         halt = self.track.halts[number]
         found = []
         for deed in halt.deeds():
-            told, target = self.track.led(number, deed)
+            told, target = self.track.step(number, deed)
             if target == len(self.rows):
                 self.rows.append((*self.rows[number], deed))
             found.append((deed, told, target))
@@ -53,10 +60,29 @@ class Roads:
     def is_done(self):
         return len(self.steps) == len(self.rows)
 
+    def go_beyond(self, number):
+        """Goes on until it is known where a number leads."""
+        while len(self.steps) <= number:
+            self.go_on()
+
+
+def roads_of(world):
+    """The roads of a world, as far as they are known; they are kept."""
+    if world.roads is None:
+        world.roads = Roads(first_scene(world))
+    return world.roads
+
 
 def all_roads(world):
     """The roads of a world, with all that rows lead to."""
-    roads = Roads(first_scene(world))
+    roads = roads_of(world)
     while not roads.is_done():
         roads.go_on()
     return roads
+
+
+def track_of(world):
+    """All that any deeds in a world have led to so far; it is kept."""
+    if world.track is None:
+        world.track = Track(first_scene(world))
+    return world.track

@@ -35,19 +35,19 @@ def checked_deeds(world, row):
     return [tuple(deed) for deed in row]
 
 
-def openings_of(library):
-    return [("open", library, when, where) for when in ("lazy", "now") for where in ("all", "own")]
-
-
 def first_scene(world):
     """What is so ahead of any deed."""
     scene = Scene(world, {}, list(world.start_list()), {}, {})
-    scene.bring_in(world.start_list())
+    scene.bring_in(world.start_list(), {name: world.free_slots(name) for name in world.start_list()})
     return scene
 
 
 class Scene:
-    """Who is there, with homes; who is searched; what is open; what slots are bound to."""
+    """Who is there, with homes; who is searched; what is open; for each one there what its slots are bound to.
+
+    Slots are told library by library, as tuples in the order of their names, and libraries in the order in which they
+    came: so scenes with the same homes have their ties in the same order.
+    """
 
     def __init__(self, world, homes, searches, counts, ties):
         self.ground = world
@@ -57,23 +57,29 @@ class Scene:
         self.ties = ties
 
     def copied(self):
-        ties = {slot: self.ties[slot] for slot in self.ties}
-        return Scene(self.ground, dict(self.homes), list(self.searches), dict(self.counts), ties)
+        return Scene(self.ground, dict(self.homes), list(self.searches), dict(self.counts), dict(self.ties))
 
     def mark(self):
         """What makes one scene another one than others of its world, as a key."""
-        counts = tuple([(name, self.counts[name]) for name in sorted(self.counts)])
-        ties = tuple([(slot, self.ties[slot]) for slot in sorted(self.ties)])
-        return (tuple(list(self.homes.items())), tuple(self.searches), counts, ties)
+        counts = tuple(sorted(self.counts.items()))
+        return (tuple(self.homes.items()), tuple(self.searches), counts, tuple(self.ties.values()))
 
-    def bring_in(self, group):
-        """Lets those of a group come in that are not there; tells them."""
-        newcomers = [name for name in group if name not in self.homes]
-        for library in newcomers:
+    def bring_in(self, group, bound):
+        """Lets newcomers come in, each with what its slots are bound to."""
+        for library, ties in bound.items():
             self.homes[library] = group
-            for name in self.ground.slots_of(library):
-                self.ties[(library, name)] = "free"
-        return newcomers
+            self.ties[library] = ties
+
+    def all_slots(self):
+        """The pairs ((library, name), tie) of all slots of those there."""
+        slots = []
+        for library, ties in self.ties.items():
+            slots.extend([((library, name), tie) for name, tie in zip(self.ground.slots_of(library), ties)])
+        return slots
+
+    def tie_of(self, library, name):
+        """What a slot is bound to, None if its library is not there."""
+        return self.ties[library][self.ground.slot_place(library, name)] if library in self.ties else None
 
     def done(self, deed):
         """Does a deed; tells its answer."""
@@ -89,18 +95,32 @@ class Scene:
         self.send_away(leavers)
         return "closed"
 
+    def idle_answer(self, deed):
+        """The answer of a deed that changes nothing, None if it may change something."""
+        if deed[0] == "find":
+            return self.finding(deed[1], deed[2])
+        if deed[0] == "close":
+            return None if deed[1] in self.counts else "not open"
+        if deed[0] == "call":
+            tie = self.tie_of(deed[1], deed[2])
+            return "not there" if tie is None else None if tie == "free" else tie
+        return None
+
     def opening(self, library, when, where):
-        trial = self.copied()
         group = self.ground.group_told(library)
-        newcomers = trial.bring_in(group)
+        searches = self.searches
         if where == "all":
-            trial.searches.extend([name for name in group if name not in self.searches])
-        if when == "now":
-            for newcomer in newcomers:
-                for name in self.ground.slots_of(newcomer):
-                    if trial.calling(newcomer, name) == "missing":
-                        return ("missing", newcomer, name)
-        self.homes, self.searches, self.ties = trial.homes, trial.searches, trial.ties
+            searches = [*searches, *[name for name in group if name not in searches]]
+        bound = {}
+        for newcomer in [name for name in group if name not in self.homes]:
+            bound[newcomer] = self.ground.free_slots(newcomer)
+            if when == "now":
+                slots = self.ground.slots_of(newcomer)
+                bound[newcomer] = tuple([self.found(newcomer, name, searches, group) for name in slots])
+                if "missing" in bound[newcomer]:
+                    return ("missing", newcomer, slots[bound[newcomer].index("missing")])
+        self.bring_in(group, bound)
+        self.searches = searches
         self.counts[library] = self.counts.get(library, 0) + 1
         return "opened"
 
@@ -115,40 +135,45 @@ class Scene:
         return [name for name in self.homes if name not in kept]
 
     def send_away(self, leavers):
-        for library in leavers:
-            del self.homes[library]
-            for name in self.ground.slots_of(library):
-                del self.ties[(library, name)]
+        if not leavers:
+            return
+        self.homes = {library: home for library, home in self.homes.items() if library not in leavers}
         self.searches = [name for name in self.searches if name not in leavers]
-        lost = [slot for slot, tie in self.ties.items() if is_list(tie) and tie[1] in leavers]
-        for slot in lost:
-            self.ties[slot] = "gone"
+        self.ties = {library: without_ties_to(leavers, self.ties[library]) for library in self.homes}
 
     def calling(self, library, name):
         if library not in self.homes:
             return "not there"
-        if self.ties[(library, name)] == "free":
-            answer = self.would_be(library, name)
-            if answer == "missing":
-                return answer
-            self.ties[(library, name)] = answer
-        return self.ties[(library, name)]
+        at = self.ground.slot_place(library, name)
+        ties = self.ties[library]
+        if ties[at] != "free":
+            return ties[at]
+        answer = self.would_be(library, name)
+        if answer != "missing":
+            self.ties[library] = (*ties[:at], answer, *ties[at + 1:])
+        return answer
 
     def would_be(self, library, name):
         """What a call of a free slot binds it to, "missing" if to nothing."""
+        near = [other for other in self.homes[library] if other in self.homes]
+        return self.found(library, name, self.searches, near)
+
+    def found(self, library, name, searches, near):
+        """What a slot is bound to where these are searched, then those near."""
         if self.ground.is_own(library, name):
             return ("to", library)
-        near = [other for other in self.homes[library] if other in self.homes]
-        found = self.ground.first_teller([*self.searches, *near], name)
-        if found is not None:
-            return ("to", found)
+        teller = self.ground.first_teller(searches, name)
+        if teller is None:
+            teller = self.ground.first_teller(near, name)
+        if teller is not None:
+            return ("to", teller)
         return "nobody" if self.ground.does_ask(library, name) else "missing"
 
     def finding(self, library, name):
         if library not in self.homes:
             return "not there"
-        found = self.ground.first_teller(self.ground.group_told(library), name)
-        return "missing" if found is None else ("to", found)
+        teller = self.ground.first_teller(self.ground.group_told(library), name)
+        return "missing" if teller is None else ("to", teller)
 
     def deeds(self):
         """The deeds, ascending, that can change this, but for those that only change how often something is open.
@@ -156,9 +181,13 @@ class Scene:
         To open who is there from the start, or what is open twice, brings nobody in and puts nobody on the search
         list: no first row has such a deed.
         """
-        deeds = [("call", *slot) for slot, tie in self.ties.items() if tie == "free"]
+        deeds = [("call", *slot) for slot, tie in self.all_slots() if tie == "free"]
         deeds.extend([("close", library) for library in self.counts])
-        for library in self.ground.names():
-            if library not in self.ground.start_list() and self.counts.get(library, 0) < 2:
-                deeds.extend(openings_of(library))
+        for library in self.ground.later_ones():
+            if self.counts.get(library, 0) < 2:
+                deeds.extend(self.ground.openings(library))
         return sorted(deeds)
+
+
+def without_ties_to(leavers, ties):
+    return tuple(["gone" if isinstance(tie, tuple) and tie[1] in leavers else tie for tie in ties])

@@ -1,26 +1,26 @@
 """States of steady releases: good ones, the least and the greatest, upgrades."""
 
 from linklines.errors import BadGoals
-from linklines.goodness import Goodness
+from linklines.goodness import ground_of
 
 
 def is_good(releases, state):
-    ground = Goodness(releases)
+    ground = ground_of(releases)
     return ground.is_good_state(ground.checked_state(state))
 
 
 def good_above(releases, state):
-    ground = Goodness(releases)
+    ground = ground_of(releases)
     return least_good(ground, ground.checked_state(state))
 
 
 def good_below(releases, state):
-    ground = Goodness(releases)
+    ground = ground_of(releases)
     return ground.lowered(ground.checked_state(state))
 
 
 def upgraded(releases, state, goals):
-    ground = Goodness(releases)
+    ground = ground_of(releases)
     known = ground.checked_state(state)
     check_goals(ground, goals)
     return least_good(ground, {library: max(number, goals.get(library, 1)) for library, number in known.items()})

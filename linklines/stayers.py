@@ -1,8 +1,5 @@
 """Who is kept when a library is closed."""
 
-from linklines.checks import is_list
-
-
 def kept_in(scene):
     """A dict of those that the rule of a scene's world keeps."""
     rule = scene.ground.rule()
@@ -25,8 +22,7 @@ def loosely_kept(scene):
 
 def bound_to(scene, library):
     """Those to whom slots of a library are bound."""
-    ties = [scene.ties[(library, name)] for name in scene.ground.slots_of(library)]
-    return [tie[1] for tie in ties if is_list(tie)]
+    return [tie[1] for tie in scene.ties[library] if isinstance(tie, tuple)]
 
 
 def kept_by_reach(scene):

@@ -1,13 +1,19 @@
 """Slots whose answers hang on when they are called, and worlds in which rows have unlike answers."""
 
 from linklines.errors import UnlikeWorlds
-from linklines.roads import Track, all_roads
-from linklines.scenes import first_scene, openings_of
+from linklines.roads import all_roads, track_of
 
 
 def unsteady_rows(world, library, name):
     world.check_slot(library, name)
-    roads = all_roads(world)
+    key = ("unsteady", library, name)
+    if key not in world.known_answers:
+        world.known_answers[key] = first_unsteady(all_roads(world), library, name)
+    found = world.known_answers[key]
+    return None if found is None else (found[0], found[1])
+
+
+def first_unsteady(roads, library, name):
     answers = [answer_to_come(scene, library, name) for scene in roads.track.halts]
     found = None
     for number, row in enumerate(roads.rows):
@@ -20,8 +26,7 @@ def unsteady_rows(world, library, name):
 
 def answer_to_come(scene, library, name):
     """The would-be answer of a slot, None where it is not there or not free."""
-    is_free = scene.ties.get((library, name), "gone") == "free"
-    return scene.would_be(library, name) if is_free else None
+    return scene.would_be(library, name) if scene.tie_of(library, name) == "free" else None
 
 
 def first_more(roads, answers, origin, most):
@@ -74,7 +79,7 @@ def deeds_that_part(one, other):
         if word is not None and word != "a":
             deeds.append(("find", library, word))
         if library not in one.start_list() or library not in other.start_list():
-            deeds.extend(openings_of(library))
+            deeds.extend(one.openings(library))
     return sorted(deeds)
 
 
@@ -84,8 +89,19 @@ def is_opened_enough(scene, deed):
 
 def parting_row(one, other):
     check_worlds(one, other)
+    if one == other:
+        return None
+    kept = one.known_answers.get("parting", None)
+    if kept is None or kept[0] != other:
+        kept = (other, first_parting(one, other))
+        one.known_answers["parting"] = kept
+    return None if kept[1] is None else list(kept[1])
+
+
+def first_parting(one, other):
+    """The first row with unlike answers in two worlds that are not equal, None if there is none."""
     deeds = deeds_that_part(one, other)
-    tracks = (Track(first_scene(one)), Track(first_scene(other)))
+    tracks = (track_of(one), track_of(other))
     rows = {(0, 0): ()}
     waiting = [(0, 0)]
     while waiting:

@@ -47,10 +47,24 @@ class World:
         self._groups = {name: group_of(libraries, [name]) for name in self._libraries}
         self._start_list = group_of(libraries, start)
         self._slots = {}
+        self._places = {}
         self._told = {}
+        self._asked = {}
+        self._own_first = {}
+        self._stays = {}
+        self._needs = {}
+        # what all rows of deeds lead to hangs on the world alone: it is found once, as far as it is asked for
+        self.roads = None
+        self.track = None
+        self.known_answers = {}
         for name, library in self._libraries.items():
             self._slots[name] = tuple(sorted([*library.wants(), *library.asks()]))
+            self._places[name] = {slot: place for place, slot in enumerate(self._slots[name])}
             self._told[name] = {word: True for word in library.tells()}
+            self._asked[name] = {word: True for word in library.asks()}
+            self._own_first[name] = library.own_first()
+            self._stays[name] = library.stays()
+            self._needs[name] = tuple(library.needs())
 
     def __eq__(self, other):
         if not isinstance(other, World):
@@ -104,18 +118,33 @@ class World:
     def told_by(self, name):
         return list(self._told[name])
 
+    def slot_place(self, library, name):
+        """The number of a slot among those of its library."""
+        return self._places[library][name]
+
+    def free_slots(self, name):
+        return ("free",) * len(self._slots[name])
+
+    def later_ones(self):
+        """The libraries, ascending, that are not of the start list."""
+        return [name for name in self._libraries if name not in self._start_list]
+
+    def openings(self, name):
+        """The deeds that open a library, ascending."""
+        return [("open", name, when, where) for when in ("lazy", "now") for where in ("all", "own")]
+
     def needs_of(self, name):
-        return self._libraries[name].needs()
+        return self._needs[name]
 
     def does_stay(self, name):
-        return self._libraries[name].stays()
+        return self._stays[name]
 
     def does_ask(self, library, name):
-        return name in self._libraries[library].asks()
+        return name in self._asked[library]
 
     def is_own(self, library, name):
         """Whether a library takes itself first for a name."""
-        return self._libraries[library].own_first() and name in self._told[library]
+        return self._own_first[library] and name in self._told[library]
 
     def first_teller(self, among, name):
         """The first one of some libraries that tells a name, None if none does."""
