@@ -6,9 +6,13 @@ import itertools
 import random
 
 from linklines.errors import LinkError
+from linklines.keeping import Rules
+from linklines.nametables import NameTable
 from linklines.objects import Archive, Library, Object
+from linklines.plans import Plan
 from linklines.releases import Releases
 from linklines.scripts import Script
+from linklines.sheets import Sheet
 from linklines.starts import Starts
 from linklines.stores import Store
 from linklines.uses import Uses
@@ -109,6 +113,14 @@ def rebuilt(thing):
         return Uses(as_lists(dict(reversed(thing.calls().items()))))
     if isinstance(thing, Script):
         return Script(as_lists(thing.rules()))
+    if isinstance(thing, Plan):
+        return Plan(thing.page(), as_lists(thing.parts()))
+    if isinstance(thing, Sheet):
+        return Sheet(as_tuples(dict(reversed(thing.bodies().items()))))
+    if isinstance(thing, Rules):
+        return Rules(tuple(thing.sections()), as_lists(thing.rules()))
+    if isinstance(thing, NameTable):
+        return NameTable(tuple(thing.words()), *thing.measures())
     if isinstance(thing, dict):
         return dict(reversed(thing.items()))
     return thing
