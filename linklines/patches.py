@@ -103,7 +103,7 @@ class Copies:
         return ("write", self.new[place:end])
 
     def costs(self, prices):
-        """For each place of the new row, and its end, the least cost of what is ahead, and where the last run begins."""
+        """For each place of the new row, and its end, the least cost of all ahead and the begin of the last run."""
         found = [(0, 0)]
         for end in range(1, len(self.new) + 1):
             found.append(min([(found[at][0] + self.price(at, end, prices), at) for at in range(end)]))

@@ -116,7 +116,7 @@ class Scene:
             bound[newcomer] = self.ground.free_slots(newcomer)
             if when == "now":
                 slots = self.ground.slots_of(newcomer)
-                bound[newcomer] = tuple([self.found(newcomer, name, searches, group) for name in slots])
+                bound[newcomer] = tuple([self.found_for(newcomer, name, searches, group) for name in slots])
                 if "missing" in bound[newcomer]:
                     return ("missing", newcomer, slots[bound[newcomer].index("missing")])
         self.bring_in(group, bound)
@@ -156,9 +156,9 @@ class Scene:
     def would_be(self, library, name):
         """What a call of a free slot binds it to, "missing" if to nothing."""
         near = [other for other in self.homes[library] if other in self.homes]
-        return self.found(library, name, self.searches, near)
+        return self.found_for(library, name, self.searches, near)
 
-    def found(self, library, name, searches, near):
+    def found_for(self, library, name, searches, near):
         """What a slot is bound to where these are searched, then those near."""
         if self.ground.is_own(library, name):
             return ("to", library)

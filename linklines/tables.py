@@ -4,7 +4,7 @@ from linklines.reading import Reading, shelf_of
 
 
 class Table:
-    """Stands by number: first lines, outcomes, for each file the number to which it leads and who is taken on the way."""
+    """Stands by number: first lines, outcomes, for each file the number to which it leads and who is taken then."""
 
     def __init__(self, store):
         self.file_names = store.files()

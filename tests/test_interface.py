@@ -45,6 +45,31 @@ uses: first_uses(uses, word); half_met(uses)
 patterns: is_pattern(thing); matches(pattern, name)
 scripts: laid(script, line); laid_program(script, program); put_in(script, number, rule)
 winners: file_classes(script); name_classes(script); first_won(script, number); first_untaken(script)
+layings: are_alike(one, other); parting(one, other); as_others(one, other); first_elsewhere(one, other)
+layings: can_be_left_out(script, numbers); left_out(script); bars_out(script, numbers); places_for(script, rule)
+layings: takes_from(script, number, rule)
+plans: is_layout(plan, sizes, thing); earliest(plan, sizes); shortest(plan, sizes)
+pairs: best_pairs(plan, sizes); layout_with(plan, sizes, file, memory); best_order(plan, sizes)
+reaches: reaches(plan, one, other); far_sizes(plan, one, other, far); bounds_hold(plan, bounds, one, other, far)
+reaches: greatest_bounds(plan, one, other, far); steady(plan); least_moves(plan, word)
+sheets: sheet_of(store, line)
+folding: lots(sheet); are_lots(sheet, thing); unlike(sheet, one, other); folded(sheet, apart=())
+folding: sheet_folded(sheet, apart=())
+keeping: rules_of(sheet); kept(rules, roots); steps(rules, roots, section); keepers(rules, names, section)
+keeping: blockers(rules, names, section); parts_by_order(sheet, apart, roots)
+images: anew(old, new)
+changes: face_of(obj); growing(changes); moving(changes); least_growths(changes, who, number); unseen(changes)
+changes: filled_anew(changes)
+patches: patched(old, patch); cost(patch, prices); least_patch(old, new, prices); floor(old, new, prices)
+patches: is_floor(old, new, prices, thing)
+exchanged: first_seen(store, file, obj)
+strings: least_strings(words); holds_all(table, words); grown_strings(words); first_dear(words)
+nametables: numbers_at(table, length); false_passes(table, length); mean_steps(table, length); first_false(table)
+nametables: most_steps(table); parted_by(one, other); least_buckets(words, factor, modulo, most)
+slottables: fewest_tables(wants, most); are_crowds(wants, most, thing)
+rowforms: file_row(thing); read_row(row); next_bytes(row); shortest_end(row); unseen_swap(row)
+holes: fills(hole, thing)
+housetexts: write_house(house); read_house(text)
 """
 
 CLASSES = """
@@ -61,6 +86,16 @@ starts: Starts(world, begins, ends): world() begins() ends()
 courses: Course(starts, row=()): events() process() more(row)
 uses: Uses(calls): calls()
 scripts: Script(rules): rules() taker(file,name)
+plans: Plan(page, parts): page() parts()
+sheets: Sheet(bodies): bodies() body(name)
+keeping: Rules(sections, rules): sections() rules()
+images: Image(program): sections() place(name) cells()
+changes: Changes(program, rows):
+nametables: NameTable(words, factor, modulo, buckets, spots): find(word) words()
+holes: Hole(sorts, others=True): sorts() others()
+houses: House(): put(name,kind,thing) drop(name) names() held(name) store() program(name) told(name) bytes_of(name)\
+ verdicts(name) meanings_of(name,word) deciders(name) leaving_open(name) made() mends(name) undo() again() copy()\
+ trial(work) __len__()
 """
 
 ERRORS = """
@@ -103,11 +138,11 @@ class TestInterface(unittest.TestCase):
 
     def test_classes_have_their_methods_themselves(self):
         for line in CLASSES.strip().splitlines():
-            file, entry, methods = line.split(": ")
+            file, entry, methods = (line + " ").split(": ")
             made = getattr(importlib.import_module("linklines." + file), entry.split("(")[0])
             self.assertEqual(made.__module__, "linklines." + file)
             self.assertEqual(str(inspect.signature(made)), entry[entry.index("("):])
-            if made.__name__ != "Course":
+            if made.__name__ not in ("Course", "Changes"):
                 self.assertIn("__eq__", vars(made))
             for method in methods.split():
                 name, rest = method.rstrip(")").split("(")
