@@ -29,37 +29,39 @@ def all_bindings(roads):
     return found
 
 
-def gone_row(world):
-    if "gone" not in world.known_answers:
-        world.known_answers["gone"] = first_gone(roads_of(world))
-    row = world.known_answers["gone"]
-    return None if row is None else list(row)
+def first_halt(world, is_there, what):
+    """The first number behind which something is there; it is found once for each world, and kept as what it is."""
+    if what not in world.known_answers:
+        world.known_answers[what] = first_number(roads_of(world), is_there)
+    return world.known_answers[what]
 
 
-def first_gone(roads):
+def first_number(roads, is_there):
     number = 0
     while number < len(roads.rows):
-        gone = sorted([slot for slot, tie in roads.track.halts[number].all_slots() if tie == "gone"])
-        if gone:
-            return (*roads.rows[number], ("call", *gone[0]))
+        if is_there(roads.track.halts[number]):
+            return number
         roads.go_beyond(number)
         number += 1
     return None
+
+
+def gone_slots(scene):
+    return sorted([slot for slot, tie in scene.all_slots() if tie == "gone"])
+
+
+def gone_row(world):
+    number = first_halt(world, gone_slots, "gone")
+    if number is None:
+        return None
+    roads = roads_of(world)
+    return [*roads.rows[number], ("call", *gone_slots(roads.track.halts[number])[0])]
+
+
+def is_left_stranded(scene):
+    return not scene.counts and is_somebody_stranded(scene)
 
 
 def stranded_row(world):
-    if "stranded" not in world.known_answers:
-        world.known_answers["stranded"] = first_stranded(roads_of(world))
-    row = world.known_answers["stranded"]
-    return None if row is None else list(row)
-
-
-def first_stranded(roads):
-    number = 0
-    while number < len(roads.rows):
-        scene = roads.track.halts[number]
-        if not scene.counts and is_somebody_stranded(scene):
-            return roads.rows[number]
-        roads.go_beyond(number)
-        number += 1
-    return None
+    number = first_halt(world, is_left_stranded, "stranded")
+    return None if number is None else list(roads_of(world).rows[number])

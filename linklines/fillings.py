@@ -1,6 +1,7 @@
 """All fillings of the holes of a line, and what each of them leads to."""
 
 from linklines.checks import LETTERS
+from linklines.choices import all_lots, greatest_of_lots, least_of_lots
 from linklines.holes import Hole
 from linklines.objects import Archive, Library, Object
 from linklines.reading import Card, Reading, what_to_read
@@ -113,13 +114,6 @@ class Fillings:
         order = sorted([(first, meaning) for meaning, first in firsts.items()])
         return [(meaning, self.filling(first[1])) for first, meaning in order]
 
-    def all_lots(self):
-        """All lots of holes, ascending tuples in the order of choices."""
-        lots = [()]
-        for hole in self.holes:
-            lots.extend([(*lot, hole) for lot in lots])
-        return [lot for _, lot in sorted([(len(lot), lot) for lot in lots])]
-
     def does_decide(self, lot):
         """Whether all fillings that are alike in the holes of a lot have one verdict."""
         places = [at for at, hole in enumerate(self.holes) if hole in lot]
@@ -130,19 +124,7 @@ class Fillings:
         return True
 
     def least_deciding(self):
-        found = []
-        for lot in self.all_lots():
-            if not any([is_within(other, lot) for other in found]) and self.does_decide(lot):
-                found.append(lot)
-        return found
+        return least_of_lots([lot for lot in all_lots(self.holes) if self.does_decide(lot)])
 
     def greatest_open(self):
-        found = []
-        for lot in reversed(self.all_lots()):
-            if not any([is_within(lot, other) for other in found]) and not self.does_decide(lot):
-                found.append(lot)
-        return found[::-1]
-
-
-def is_within(lot, other):
-    return all([hole in other for hole in lot])
+        return greatest_of_lots([lot for lot in all_lots(self.holes) if not self.does_decide(lot)])

@@ -2,17 +2,7 @@
 
 from linklines.checks import is_integer, is_list, is_word
 from linklines.sheets import Sheet
-
-
-def numbered(faces):
-    """For each key the number of the lot of those with a face like its own, counted as they are first met."""
-    numbers = {}
-    told = {}
-    for name, face in faces.items():
-        if face not in numbers:
-            numbers[face] = len(numbers)
-        told[name] = numbers[face]
-    return told
+from linklines.tables import numbered
 
 
 def face_of_body(cells, lot_of):
@@ -25,7 +15,8 @@ def lot_numbers(sheet):
     # one lot of all; a lot is parted as long as its sections have unlike faces
     lot_of = {name: 0 for name in bodies}
     while True:
-        finer = numbered({name: (lot_of[name], face_of_body(cells, lot_of)) for name, cells in bodies.items()})
+        faces = [(lot_of[name], face_of_body(cells, lot_of)) for name, cells in bodies.items()]
+        finer = {name: number for name, number in zip(bodies, numbered(faces))}
         if finer == lot_of:
             return lot_of
         lot_of = finer

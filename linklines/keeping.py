@@ -1,6 +1,7 @@
 """Rules by which sections are kept, and the least lots that keep one or let it go."""
 
 from linklines.checks import first_bad_word, first_not_among, is_integer, is_list, is_row_of, is_word
+from linklines.choices import all_lots, least_of_lots
 from linklines.errors import BadRoots, BadRule, BadWords, NoBody
 from linklines.folding import folded, sheet_folded
 from linklines.sheets import Sheet
@@ -85,23 +86,6 @@ def steps(rules, roots, section):
             numbers.append(causes[name])
             needed.update({part: True for part in rules.rules()[causes[name]][0]})
     return numbers[::-1]
-
-
-def all_lots(names):
-    """All lots of names, each ascending, in the order of choices."""
-    lots = [()]
-    for name in sorted(names):
-        lots.extend([(*lot, name) for lot in lots])
-    return [lot for _, lot in sorted([(len(lot), lot) for lot in lots])]
-
-
-def least_of_lots(lots):
-    """Of lots in the order of choices those within which there is no other one."""
-    found = []
-    for lot in lots:
-        if not any([all([name in lot for name in other]) for other in found]):
-            found.append(lot)
-    return found
 
 
 def check_names(rules, names, section):

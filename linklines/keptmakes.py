@@ -1,10 +1,9 @@
 """What a house has made, with what it was made of."""
 
-from linklines.errors import Missing, Twice
 from linklines.holes import plain_face
 from linklines.objects import Archive, Object
-from linklines.programs import Program
-from linklines.reading import read_line, what_to_read
+from linklines.programs import program_of_line
+from linklines.reading import what_to_read
 from linklines.rowforms import file_row
 
 
@@ -28,14 +27,7 @@ def made_of(line, things):
 
 
 def program_made(line, things):
-    """The program of a line, and errors, as linked tells them."""
-    reading = read_line({name: what_to_read(name, held) for name, held in things.items()}, line)
-    if reading.doubled:
-        raise Twice(min(list(reading.doubled)))
-    lacking = reading.missing_names()
-    if lacking:
-        raise Missing(lacking)
-    return Program(reading)
+    return program_of_line({name: what_to_read(name, held) for name, held in things.items()}, line)
 
 
 def object_taken(things, who):

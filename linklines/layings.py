@@ -1,6 +1,7 @@
 """Scripts that lay all lines alike, what can be left out of them and what can be put in."""
 
 from linklines.checks import is_integer_from, is_list
+from linklines.choices import all_lots, greatest_of_lots
 from linklines.errors import BadRule, BadRules
 from linklines.likeness import Likeness
 from linklines.pools import Pool
@@ -63,18 +64,8 @@ def can_be_spared(pool, spans, numbers):
 def left_out(script):
     pool = Pool(script.rules())
     spans = pool.spans_shared()
-    many = len(pool.kept_rules)
-    greatest = []
-    # lots with more bits come first, so that none found is within a later one
-    for lot in sorted([(-sum([1 for at in range(many) if bits & (1 << at)]), bits) for bits in range(1 << many)]):
-        numbers = tuple([at for at in range(many) if lot[1] & (1 << at)])
-        if not is_within_any(numbers, greatest) and can_be_spared(pool, spans, numbers):
-            greatest.append(numbers)
-    return sorted(greatest)
-
-
-def is_within_any(numbers, lots):
-    return any([all([number in lot for number in numbers]) for lot in lots])
+    numbers = list(range(len(pool.kept_rules)))
+    return sorted(greatest_of_lots([lot for lot in all_lots(numbers) if can_be_spared(pool, spans, lot)]))
 
 
 def bars_out(script, numbers):

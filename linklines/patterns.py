@@ -36,6 +36,15 @@ def are_unlike_signs(signs):
     return all([sign in SECTION_SIGNS and signs.count(sign) == 1 for sign in signs])
 
 
+def over_stars(places, stars):
+    """Places with those behind stars that stand for no signs."""
+    further = places | ((places & stars) << 1)
+    while further != places:
+        places = further
+        further = places | ((places & stars) << 1)
+    return places
+
+
 class Matcher:
     """The tokens of a pattern; PLACES are the bits of the numbers of tokens that can be behind a row of signs."""
 
@@ -47,25 +56,14 @@ class Matcher:
         for sign in SECTION_SIGNS:
             self.takes[sign] = sum([1 << at for at, token in enumerate(tokens) if sign in token])
 
-    def over_stars(self, places):
-        """With the places behind stars that stand for no signs."""
-        further = places | ((places & self.stars) << 1)
-        while further != places:
-            places = further
-            further = places | ((places & self.stars) << 1)
-        return places
-
-    def first_places(self):
-        return self.over_stars(1)
-
     def step(self, places, sign):
-        return self.over_stars((places & self.stars) | ((places & self.takes[sign]) << 1))
+        return over_stars((places & self.stars) | ((places & self.takes[sign]) << 1), self.stars)
 
     def is_end(self, places):
         return (places >> self.many) & 1 == 1
 
     def does_match(self, name):
-        places = self.first_places()
+        places = over_stars(1, self.stars)
         for sign in name:
             places = self.step(places, sign)
         return self.is_end(places)

@@ -63,7 +63,12 @@ class Program:
 
 def linked(store, line):
     check_line(store, line)
-    reading = read_line(shelf_of(store), line)
+    return program_of_line(shelf_of(store), line)
+
+
+def program_of_line(shelf, line):
+    """The program of a line of what there is to read; Twice, Missing."""
+    reading = read_line(shelf, line)
     if reading.doubled:
         raise Twice(min(list(reading.doubled)))
     lacking = reading.missing_names()

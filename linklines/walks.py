@@ -1,6 +1,6 @@
 """Walks letter by letter along all patterns of a list at once."""
 
-from linklines.patterns import tokens_of
+from linklines.patterns import over_stars, tokens_of
 
 
 class Walk:
@@ -17,7 +17,7 @@ class Walk:
         self.known = {}
         for pattern in patterns:
             self.add_pattern(tokens_of(pattern))
-        self.layers = [{self.over_stars(self.begin): ""}]
+        self.layers = [{over_stars(self.begin, self.stars): ""}]
         for _ in range(most):
             self.layers.append(self.longer(self.layers[-1]))
 
@@ -32,14 +32,6 @@ class Walk:
                 if sign in token:
                     self.takes[number] += 1 << (origin + at)
         self.end_bits.append(origin + len(tokens))
-
-    def over_stars(self, places):
-        """With the places behind stars that stand for no signs."""
-        further = places | ((places & self.stars) << 1)
-        while further != places:
-            places = further
-            further = places | ((places & self.stars) << 1)
-        return places
 
     def longer(self, ways):
         """The first words with one sign more, ascending, from the places behind them."""
@@ -57,7 +49,7 @@ class Walk:
             taken = {}
             for bits in self.takes:
                 if places & bits not in taken:
-                    taken[places & bits] = self.over_stars(held | ((places & bits) << 1))
+                    taken[places & bits] = over_stars(held | ((places & bits) << 1), self.stars)
             self.known[places] = [taken[places & bits] for bits in self.takes]
         return self.known[places]
 
@@ -78,7 +70,7 @@ class Walk:
     def least_words(self):
         """The dict from the same lots to the word, however long, that is least as strings compare."""
         found = {}
-        self.go_up(self.over_stars(self.begin), "", {}, found)
+        self.go_up(over_stars(self.begin, self.stars), "", {}, found)
         return found
 
     def go_up(self, places, word, met, found):
@@ -94,7 +86,7 @@ class Walk:
     def greatest_words(self):
         """The dict from the same lots to the word that is greatest as strings compare."""
         found = {}
-        self.go_down(self.over_stars(self.begin), "", {}, found)
+        self.go_down(over_stars(self.begin, self.stars), "", {}, found)
         return found
 
     def go_down(self, places, word, met, found):

@@ -23,7 +23,7 @@ def word_at(rank, length):
 
 
 def first_rank_above(word, length):
-    """The number of the least word of a length that is greater than a word, as strings compare; any for the empty one."""
+    """The number of the least word of a length that is greater than a word, as strings compare; any is for ""."""
     if len(word) >= length:
         return rank_of(word[:length]) + 1
     return rank_of(word) * POWERS[length - len(word)]
