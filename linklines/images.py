@@ -80,4 +80,4 @@ def anew(old, new):
     before, after = old.cells(), new.cells()
     many = min(len(before), len(after))
     unlike = [place for place in range(many) if before[place] != after[place]]
-    return [*unlike, *range(many, max(len(before), len(after)))]
+    return unlike + list(range(many, max(len(before), len(after))))

@@ -9,10 +9,9 @@ from linklines.scripts import check_put_in, is_rule
 
 
 def likeness_of(one, other):
-    rules = one.rules()
-    further = other.rules()
+    rules, further = one.rules(), other.rules()
     many = len(rules)
-    return Likeness(Pool([*rules, *further]), range(many), range(many, many + len(further)))
+    return Likeness(Pool([*rules, *further]), list(range(many)), list(range(many, many + len(further))))
 
 
 def are_alike(one, other):
@@ -58,7 +57,7 @@ def can_be_spared(pool, spans, numbers):
     """Whether some rule is left and all lines are laid by those left as by all."""
     many = len(pool.kept_rules)
     left = without(many, numbers)
-    return len(left) > 0 and Likeness(pool, range(many), left).are_alike(spans)
+    return len(left) > 0 and Likeness(pool, list(range(many)), left).are_alike(spans)
 
 
 def left_out(script):
@@ -72,7 +71,7 @@ def bars_out(script, numbers):
     check_numbers(script, numbers)
     pool = Pool(script.rules())
     many = len(pool.kept_rules)
-    return Likeness(pool, range(many), without(many, numbers)).first_line()
+    return Likeness(pool, list(range(many)), without(many, numbers)).first_line()
 
 
 def places_for(script, rule):
@@ -84,8 +83,8 @@ def places_for(script, rule):
     spans = pool.spans_shared()
     places = []
     for number in range(many + 1):
-        order = [*range(number), many, *range(number, many)]
-        if Likeness(pool, range(many), order).are_alike(spans):
+        order = list(range(number)) + [many] + list(range(number, many))
+        if Likeness(pool, list(range(many)), order).are_alike(spans):
             places.append(number)
     return places
 

@@ -7,10 +7,10 @@ class Completions:
     def __init__(self, walk, files):
         self.walk = walk
         self.file_of = files
-        self.layers = [self.own_ends(walk.layers[-1])]
+        self.endings = [self.own_ends(walk.layers[-1])]
         for layer in reversed(walk.layers[:-1]):
-            self.layers.append(self.shorter(layer))
-        self.layers.reverse()
+            self.endings.append(self.shorter(layer))
+        self.endings.reverse()
 
     def own_end(self, places):
         """What it costs to end here, None if a name that ends here has no file."""
@@ -27,7 +27,7 @@ class Completions:
 
     def shorter(self, layer):
         """What the places of a layer cost, once those of the next one are known."""
-        further = self.layers[-1]
+        further = self.endings[-1]
         found = self.own_ends(layer)
         for places in layer:
             for sign, reached in zip(self.walk.signs, self.walk.reached_from(places)):
@@ -73,7 +73,7 @@ def pairs_behind(sides, many, places, prefix, is_falling):
     ways = [[], []]
     for sign, reached in zip(walk.signs, walk.reached_from(places)):
         for side in (0, 1):
-            way = sides[side].layers[many + 1].get(reached)
+            way = sides[side].endings[many + 1].get(reached)
             ways[side].append(None if way is None else (way[0] + 1, way[1], sign + way[2]))
     best_lows = [low_end]
     for way in ways[lower]:

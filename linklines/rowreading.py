@@ -36,7 +36,7 @@ class Reader:
 
     def read_choice(self, least, beyond):
         """A byte from the least one on, below another one."""
-        return self.read_byte(range(least, beyond), least)
+        return self.read_byte(list(range(least, beyond)), least)
 
     def read_number(self, least=0, most=None):
         """A number that is told by its digits."""
@@ -102,14 +102,16 @@ class Reader:
             thing = self.read_object()
         else:
             thing = self.read_archive() if kind == 2 else self.read_library()
-        for total in sums_of(self.row):
+        sums = sums_of(self.row)
+        for total in sums:
             self.read_byte([total], total)
         return thing
 
     def read_archive(self):
         lot = Unlike()
         members = []
-        for _ in range(self.read_choice(0, MOST_THINGS + 1)):
+        many = self.read_choice(0, MOST_THINGS + 1)
+        for _ in range(many):
             word = self.read_word(lot)
             members.append((word, self.read_object()))
         return Archive(members)
@@ -122,7 +124,8 @@ class Reader:
             word = self.read_word(lot)
             marks[word] = self.read_choice(1, 6)
         needed = Unlike()
-        needs = [self.read_word(needed) for _ in range(self.read_choice(0, MOST_THINGS + 1))]
+        many = self.read_choice(0, MOST_THINGS + 1)
+        needs = [self.read_word(needed) for _ in range(many)]
         told = [[word for word, mark in marks.items() if mark & bit] for bit in (1, 2, 4)]
         return Library(told[0], told[1], told[2], needs, flags % 2 == 1, flags >= 2)
 
@@ -147,7 +150,8 @@ class Reader:
 
     def read_section(self, names):
         name = ""
-        for _ in range(self.read_choice(1, 13)):
+        many = self.read_choice(1, 13)
+        for _ in range(many):
             name = name + chr_of(self.read_byte(self.section_signs, self.section_signs[0]))
         rights = RIGHTS[self.read_choice(0, len(RIGHTS))]
         align = ALIGNS[self.read_choice(0, len(ALIGNS))]

@@ -27,7 +27,7 @@ STATEMENTS = (ast.Assign, ast.Try, ast.AugAssign, ast.If, ast.While, ast.For, as
               ast.Raise, ast.Expr, ast.FunctionDef, ast.Delete, ast.ClassDef, ast.ImportFrom)
 NOT_NODES = (ast.Set, ast.SetComp, ast.GeneratorExp, ast.JoinedStr, ast.Lambda, ast.Yield, ast.Await, ast.NamedExpr,
              ast.Div, ast.With, ast.Global, ast.Nonlocal)
-AT_ONCE = {"zip", "enumerate", "reversed", "items", "keys", "values", "permutations"}
+AT_ONCE = {"zip", "enumerate", "reversed", "items", "keys", "values", "permutations", "range"}
 CHANGING = {"append", "clear", "extend", "insert", "pop", "remove", "reverse", "setdefault", "update"}
 
 
@@ -228,6 +228,11 @@ class TestLanguage(unittest.TestCase):
                 if isinstance(node, ast.Call) and isinstance(node.func, ast.Name) and node.args:
                     if node.func.id in ("list", "tuple", "dict", "sorted", "enumerate", "zip"):
                         allowed.update(id(part) for part in node.args)
+                if isinstance(node, ast.Assign) and getattr(getattr(node.value, "func", None), "id", "") == "range":
+                    allowed.add(id(node.value))
+                if isinstance(node, ast.Call) and isinstance(node.func, ast.Name) and node.args:
+                    if node.func.id == "reversed" and getattr(node.args[0], "func", None) is not None:
+                        allowed.update(id(part) for part in node.args if part.func.id == "range")
             for node in ast.walk(tree):
                 if isinstance(node, ast.Call):
                     word = getattr(node.func, "id", getattr(node.func, "attr", ""))
