@@ -33,19 +33,8 @@ class Views:
         return (self.table.all_ways[number][name], [who for who in comers if who in self.heard_words])
 
 
-def lead_behind(lead, comers, further):
-    """By whom one list of those taken goes on beyond the other one, once both have grown; None if they part."""
-    one, other = [*lead[0], *comers], [*lead[1], *further]
-    many = min(len(one), len(other))
-    if one[:many] != other[:many]:
-        return None
-    return (tuple(one[many:]), tuple(other[many:]))
-
-
-def are_seen_apart(one, other, lead):
-    if one != other:
-        return True
-    return one[0] == "links" and lead != ((), ())
+def are_seen_apart(one, other, are_alike):
+    return one != other or (one[0] == "links" and not are_alike)
 
 
 def first_seen(store, file, obj):
@@ -57,13 +46,14 @@ def first_seen(store, file, obj):
         raise BadObject(obj)
     files = {name: store.file(name) for name in store.files()}
     views = (Views(store, file), Views(Store({**files, file: obj}), file))
-    begin = (0, 0, ((), ()))
+    # two numbers of stands, and whether the lists of the others taken are alike
+    begin = (0, 0, True)
     lines = {begin: []}
     queue = [begin]
     at = 0
     while at < len(queue):
-        one, other, lead = queue[at]
-        if are_seen_apart(views[0].seen[one], views[1].seen[other], lead):
+        one, other, are_alike = queue[at]
+        if are_seen_apart(views[0].seen[one], views[1].seen[other], are_alike):
             return lines[queue[at]]
         for name in files:
             after = step_behind(views, queue[at], name)
@@ -77,6 +67,5 @@ def first_seen(store, file, obj):
 def step_behind(views, halt, name):
     one, comers = views[0].led(halt[0], name)
     other, further = views[1].led(halt[1], name)
-    # once the lists of those taken have parted they stay apart
-    lead = None if halt[2] is None else lead_behind(halt[2], comers, further)
-    return (one, other, lead)
+    # lists that are unlike stay so: who is taken later in one of them comes behind somebody who lets it be taken
+    return (one, other, halt[2] and comers == further)

@@ -11,7 +11,7 @@ def are_sorts(thing):
     """Whether a thing is a list, not empty, of unlike sorts."""
     if not is_list(thing) or len(thing) == 0:
         return False
-    return all([isinstance(sort, str) and sort in SORTS and thing.count(sort) == 1 for sort in thing])
+    return all([sort in SORTS and thing.count(sort) == 1 for sort in thing])
 
 
 class Hole:

@@ -138,7 +138,7 @@ class House:
         line = self.line_of(name)
         things = self.things_in(line)
         objects = [held for held in things.values() if isinstance(held, Object)]
-        if not is_word(word) or not any([word in obj.wants() for obj in objects]):
+        if not any([word in obj.wants() for obj in objects]):
             raise NotWanted(word)
         return Fillings(line, things, word).first_meanings()
 
@@ -203,7 +203,8 @@ def check_named(things, kind, words):
 
 def check_needed(things, name):
     for other in sorted(things):
-        if other != name and is_list(things[other][1]) and name in things[other][1] and is_refused(things, other):
+        # all stood well ahead of the deed: who does not now names what it changes
+        if is_refused(things, other):
             raise Needed(name, other)
 
 

@@ -10,7 +10,7 @@ from linklines.sheets import Sheet
 def is_keeping_rule(thing, known):
     if not is_row_of(2, thing) or first_not_among(thing[0], known) is not None:
         return False
-    return is_word(thing[1]) and thing[1] in known
+    return thing[1] in known
 
 
 class Rules:

@@ -91,6 +91,20 @@ class TestExchanged(unittest.TestCase):
         asked = Store({"m": obj("m"), "ar": Archive([("p", obj("a", "", "k"))]), "n": obj("n", "a")})
         self.assertEqual(first_seen(asked, "m", obj("mk")), ["m", "n", "ar"])
 
+    def test_the_order_alone(self):
+        # p comes for x, which w wants, or later for y, which q wants: the same are taken, in another order
+        store = Store({"m": obj("m"), "n": obj("n", "ab"),
+                       "ar": Archive([("w", obj("a", "x")), ("p", obj("xy")), ("q", obj("b", "y"))])})
+        made = Object({"m": ("strong", None), "x": ("weak", None)})
+        self.assertEqual(first_seen(store, "m", made), ["m", "n", "ar"])
+        self.assertEqual(plainly_first(store, "m", made, 3), ["m", "n", "ar"])
+        # while a name is missing nobody sees it: there it is seen as soon as nothing is missing
+        far = Store({**{name: store.file(name) for name in store.files()}, "o": obj("o"), "n": obj("n", "abo")})
+        self.assertEqual(first_seen(far, "m", made), ["m", "n", "ar", "o"])
+        self.assertEqual(plainly_first(far, "m", made, 4), ["m", "n", "ar", "o"])
+        self.assertIsNone(first_seen(Store({"m": obj("m"), "n": obj("n", "ab"), "ar": Archive(
+            [("w", obj("a", "x")), ("q", obj("b", "y")), ("p", obj("xy"))])}), "m", made))
+
     def test_errors(self):
         store = Store({"m": obj("m"), "ar": Archive([]), "l": Library([]), "g": ["ar"]})
         for thing in [*any_objects(), "x"]:

@@ -8,7 +8,7 @@ from linklines.folding import are_lots, folded, lots, sheet_folded, unlike
 from linklines.keeping import kept, parts_by_order, rules_of
 from linklines.objects import Archive, Library, Object
 from linklines.programs import linked
-from linklines.sheets import Sheet, sheet_of
+from linklines.sheets import Sheet, sheet_of, word_of_number
 from linklines.stores import Store
 from tests.tools import any_objects, call_alike, raised, spoil
 
@@ -145,6 +145,8 @@ class TestSheets(unittest.TestCase):
         self.assertEqual(sheet.body("an"), [1])
         self.assertEqual(sheet.body("nz"), [9])
         self.assertEqual(len(lots(sheet)), 10)
+        self.assertEqual([word_of_number(number) for number in (25, 26, 51, 52, 701, 702, 703, 728)],
+                         ["z", "aa", "az", "ba", "zz", "aaa", "aab", "aba"])
 
 
 class TestAlike(unittest.TestCase):
@@ -170,7 +172,8 @@ class TestAlike(unittest.TestCase):
         self.assertIs(call_alike(self, are_lots, sheet, good), True)
         for thing in [*any_objects(), good[:2], [*good, ()], [*good, ("e",)], [*good, ("f",)], [("b", "d"), "e", ("a", "c")],
                       [("b", "d", "b"), ("e",), ("a", "c")], [("b", "d"), ("e", None), ("a", "c")], [("a", "b", "c", "d", "e")],
-                      [("a", "c"), ("b",), ("d",), ("e",)]]:
+                      [("a", "c"), ("b",), ("d",), ("e",)], [("b", "d"), ("e", []), ("a", "c")],
+                      [("b", "d"), ("e", {}), ("a", "c")]]:
             self.assertIs(are_lots(sheet, thing), False)
         self.assertIs(are_lots(sheet, [("a",), ("b",), ("c",), ("d",), ("e",)]), True)
         self.assertIs(are_lots(Sheet({}), []), True)

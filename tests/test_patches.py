@@ -92,6 +92,11 @@ class TestPatches(unittest.TestCase):
         # a cost looks at no old row
         self.assertEqual(cost([("copy", 10 ** 6, 10 ** 6)], [1, 1, 5]), 5)
 
+    def test_a_write_can_be_cheaper_than_a_copy(self):
+        old, new = [1, 2, 3, 4, 5, 9], [1, 2, 3, 4, 5, 1]
+        self.assertEqual(least_patch(old, new, [1, 1, 3]), [("copy", 0, 5), ("write", (1,))])
+        self.assertEqual(least_patch(old, new, [2, 1, 2]), [("copy", 0, 5), ("copy", 0, 1)])
+
     def test_the_example(self):
         patch = call_alike(self, least_patch, OLD, NEW, [1, 1, 2])
         self.assertEqual(cost(patch, [1, 1, 2]), 10)

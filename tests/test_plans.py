@@ -96,6 +96,24 @@ class TestLayouts(unittest.TestCase):
                     self.assertTrue(found[0] <= file and found[1] <= memory)
         self.assertGreater(several, 3)
 
+    def test_more_than_two_best_pairs(self):
+        several = 0
+        for seed in range(1600):
+            dice = random.Random(seed)
+            plan = random_plan(dice, dice.randint(3, 5), 14)
+            sizes = random_sizes(dice, plan)
+            told = best_pairs(plan, sizes)
+            if len(told) > 2:
+                several += 1
+                self.assertEqual(told, pairs_by_rests(plan, sizes))
+                for file, memory in told:
+                    layout = layout_with(plan, sizes, file, memory)
+                    self.assertEqual(plain_ends(plan, sizes, layout), (file, memory))
+                    self.assertIs(plain_is_layout(plan, sizes, layout), True)
+                    self.assertIsNone(layout_with(plan, sizes, file - 1, memory))
+                    self.assertIsNone(layout_with(plan, sizes, file, memory - 1))
+        self.assertGreater(several, 1)
+
     def test_is_layout(self):
         seen = {True: 0, False: 0}
         for seed in range(300):
@@ -113,6 +131,7 @@ class TestLayouts(unittest.TestCase):
         self.assertGreater(min(seen.values()), 60, seen)
         plan = example_77()
         for thing in [*any_objects(), [], [(0, 0)], [(0, 0), (4, 4)], [(0, 0), (4, 4), (8, 8), (16, 16)],
+                      [(-8, 0), (4, 4), (8, 8)], [(-1, 7), (4, 12), (8, 16)], [(0, -8), (4, 4), (8, 8)],
                       [(0, 0), (4, 4), (8, 8, 8)], [(0, 0), (4, 4), "ab"], [(0, 0), (4, 4), None]]:
             self.assertIs(is_layout(plan, [1, 3, 5], thing), False)
         self.assertIs(call_alike(self, is_layout, plan, [1, 3, 5], [(0, 0), (4, 4), (8, 8)]), True)
@@ -159,6 +178,27 @@ class TestLayouts(unittest.TestCase):
             self.assertEqual(raised(function, plan, (9, 3), *more), ("BadSizes", 3))
             self.assertEqual(raised(function, plan, (9, 3, 5, 5), *more), ("BadSizes", 3))
             self.assertEqual(raised(function, plan, (9, 3, 4, 5), *more), ("BadSizes", 2))
+
+
+def pairs_by_rests(plan, sizes):
+    """The best pairs among the layouts that are earliest for each choice of the rests of the bits by the page."""
+    page, parts = plan.page(), plan.parts()
+    ends = set()
+    for rests in itertools.product(*[[None] if part[5] else range(0, page, part[2]) for part in parts]):
+        end = file_end = 0
+        for at, (part, rest, size) in enumerate(zip(parts, rests, sizes)):
+            address = end
+            while (at and parts[at - 1][1] != part[1] and address // page == (end - 1) // page and end % page) \
+                    or (address % part[2] if rest is None else address % page != rest):
+                address += 1
+            end = address + size
+            if rest is not None:
+                while file_end % page != rest:
+                    file_end += 1
+                file_end += size
+        ends.add((file_end, -(-end // page)))
+    return sorted(pair for pair in ends
+                  if not any(other[0] <= pair[0] and other[1] <= pair[1] and other != pair for other in ends))
 
 
 def all_layouts(plan, sizes, beyond):
