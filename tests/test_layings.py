@@ -6,6 +6,7 @@ import unittest
 
 from linklines.layings import (are_alike, as_others, bars_out, can_be_left_out, first_elsewhere, left_out, parting,
                                places_for, takes_from)
+from linklines.pools import Pool
 from linklines.scripts import Script, laid, put_in
 from tests.script_tools import example_68, plain_taker, random_pattern
 from tests.test_scripts import plain_laid
@@ -162,6 +163,43 @@ class TestAlike(unittest.TestCase):
         # where equal names part: the script that says name leaves them as they stand
         twice = Script([("x", "b", "a", "line"), ("x", "a", "a", "line")])
         self.assertEqual(parting(twice, Script([("x", "[ab]", "a", "name")])), [("a", "a"), ("b", "a")])
+
+    def test_names_of_unlike_rules(self):
+        ahead = [("y", "a", "m", "line"), ("y", "b", "z", "line")]
+        named = Script([*ahead, ("x", "[ab]", "[mz]", "name")])
+        # a greater name ahead of a lesser one, of a lesser file
+        self.assertEqual(parting(named, Script([*ahead, ("x", "a", "z", "line"), ("x", "b", "m", "line")])),
+                         [("a", "z"), ("b", "m")])
+        self.assertEqual(parting(named, Script([*ahead, ("x", "b", "m", "line"), ("x", "a", "z", "line")])), None)
+        # equal names alone part these: they stay as they stand where the rule says name
+        one = Script([("y", "a", "z", "line"), ("x", "[ab]", "[mz]", "name")])
+        other = Script([("y", "a", "z", "line"), ("x", "a", "m", "line"), ("x", "b", "[mz]", "name")])
+        self.assertEqual(parting(one, other), [("b", "m"), ("a", "m")])
+        self.assertIs(are_alike(one, other), False)
+        self.assertIs(are_alike(other, one), False)
+
+    def test_the_fewest_signs_of_several_pairs(self):
+        rules = [("x", "a", "aaaa", "line"), ("y", "b", "*", "line"), ("z", "c", "*", "line")]
+        self.assertEqual(parting(Script(rules), Script(rules[::-1])), [("b", "."), ("c", ".")])
+        self.assertEqual(parting(Script(rules), Script([rules[1], rules[0], rules[2]])), [("a", "aaaa"), ("b", ".")])
+
+    def test_least_and_greatest_names(self):
+        def patterns(dice):
+            return "".join(dice.choice(["a", "m", "?", "[am]", "[.z]"]) for _ in range(dice.randint(1, 2)))
+        names = words_of(sorted("abcdefghijklmnopqrstuvwxyz0123456789._"), 2)
+        for seed in range(12):
+            dice = random.Random(seed)
+            rules = [("x", dice.choice(["a", "?", "[ab]"]), patterns(dice), "line") for _ in range(3)]
+            spans = Pool(rules).spans_shared()
+            found = {}
+            for file in "abc":
+                for name in names:
+                    lot = sum(1 << at for at, rule in enumerate(rules) if plain_taker([rule], file, name) == 0)
+                    low, high = found.get(lot, (name, name))
+                    found[lot] = (min(low, name), max(high, name))
+            for lot, span in spans.items():
+                if lot:
+                    self.assertEqual(span, found[lot])
 
     def test_the_order_of_outs(self):
         one = Script([("x", "a", "*", "line"), ("y", "b", "*", "line")])

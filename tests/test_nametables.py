@@ -138,6 +138,8 @@ class TestAllWords(unittest.TestCase):
                 seen["most"] += 1
             other_words = words if dice.random() < 0.6 else words[1:]
             other_measures = (*measures[:2], dice.choice([measures[2], 3]), measures[3])
+            if dice.random() < 0.4:
+                other_measures = (dice.choice([2, 7]), dice.choice([11, 64]), *measures[2:])
             other, further = NameTable(other_words, *other_measures), Plain(other_words, *other_measures)
             told = parted_by(table, other)
             short = [word for word in SHORT if (word in words) != (word in other_words)
@@ -167,6 +169,23 @@ class TestAllWords(unittest.TestCase):
         own = NameTable(list(LETTERS), 500, 500, 1, 500)
         self.assertEqual(most_steps(own), (27, "z"))
         self.assertEqual(parted_by(own, NameTable(list(LETTERS)[::-1], 500, 500, 1, 500)), "a")
+
+    def test_longer_words_that_are_there(self):
+        # by twos no shorter word, and no other one of its length, has the number of so many z
+        for length, modulo in ((2, 100), (3, 200), (4, 500), (5, 900), (6, 1700), (7, 3400), (8, 6700)):
+            word = "z" * length
+            table = NameTable([word], 2, modulo, 1, modulo)
+            told = first_false(table)
+            if length == 8:
+                self.assertIsNone(told)
+            else:
+                self.assertEqual(len(told), length + 1)
+                self.assertEqual(table.find(told), (None, 2))
+            self.assertEqual(most_steps(table), (2, word))
+            self.assertEqual(false_passes(table, length), 0)
+            self.assertEqual(parted_by(table, NameTable([word], 2, modulo, 1, 1)), "a")
+            other = NameTable(["z" * (length - 1), word], 2, modulo, 1, modulo)
+            self.assertEqual(parted_by(table, other), "z" * (length - 1))
 
     def test_where_tables_part(self):
         one = NameTable(["b", "a"], 31, 101, 7, 9)

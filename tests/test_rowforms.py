@@ -300,6 +300,14 @@ class TestWhatCanCome(unittest.TestCase):
         self.assertEqual(shortest_end([1, 2, 2, 97, 98, 0])[2:-3], [2, 97, 98, 0, 1, 98, 0])
         self.assertEqual(shortest_end([1, 2, 1, 122, 0])[2:-3], [1, 122, 0, 2, 122, 97, 0])
         self.assertEqual(len(read_row(shortest_end([1, 40])).wants()), 40)
+        # behind z there are 26 words of two signs: of 30 three come ahead of it, as words of three would be longer
+        end = read_row(shortest_end([1, 31, 1, 121, 0])).wants()
+        self.assertEqual(end[:6], ["y", "ya", "yb", "yc", "z", "za"])
+        self.assertEqual(end[-1], "zz")
+        self.assertEqual(read_row(shortest_end([1, 28, 1, 121, 0])).wants()[:3], ["y", "z", "za"])
+        self.assertEqual(read_row(shortest_end([1, 29, 1, 121, 0])).wants()[:3], ["y", "ya", "z"])
+        told = read_row(shortest_end([3, 0, 31, 1, 121, 1])).tells()
+        self.assertEqual(told[:6], ["y", "ya", "yb", "yc", "z", "za"])
         told = call_alike(self, shortest_end, [1, 28])
         self.assertEqual(read_row(told).wants()[-3:], ["z", "za", "zb"])
 
