@@ -16,7 +16,7 @@ def likeness_of(one, other):
 
 def are_alike(one, other):
     likeness = likeness_of(one, other)
-    return likeness.are_alike(likeness.pool.spans_shared())
+    return likeness.first_elsewhere() is None and likeness.are_alike(likeness.pool.spans_shared())
 
 
 def parting(one, other):
@@ -28,8 +28,7 @@ def as_others(one, other):
 
 
 def first_elsewhere(one, other):
-    likeness = likeness_of(one, other)
-    return likeness.first_elsewhere(likeness.pool.first_shared())
+    return likeness_of(one, other).first_elsewhere()
 
 
 def check_numbers(script, numbers):

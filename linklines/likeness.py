@@ -46,7 +46,9 @@ class Likeness:
         self.known_takers = {}
 
     def takers(self, lot):
-        return (self.layings[0].taker(lot), self.layings[1].taker(lot))
+        if lot not in self.known_takers:
+            self.known_takers[lot] = (self.layings[0].taker(lot), self.layings[1].taker(lot))
+        return self.known_takers[lot]
 
     def are_elsewhere(self, takers):
         return self.layings[0].out_of(takers[0]) != self.layings[1].out_of(takers[1])
@@ -89,16 +91,23 @@ class Likeness:
                 found[takers] = first
         return found
 
-    def first_elsewhere(self, firsts):
+    def first_elsewhere(self):
         """The first input with another out, None if there is none."""
-        found = [first for takers, first in self.first_inputs(firsts).items() if self.are_elsewhere(takers)]
-        return min(found)[1:] if found else None
+        best = None
+        for file_lot, file in self.pool.file_firsts.items():
+            for name_lot, name in self.pool.name_firsts.items():
+                found = (len(file) + len(name), file, name)
+                # names come by their lengths: all further ones have more signs
+                if best is not None and found[0] > best[0]:
+                    break
+                if (best is None or found < best) and self.are_elsewhere(self.takers(file_lot & name_lot)):
+                    best = found
+        return None if best is None else best[1:]
 
     def first_line(self):
         """The first line that is laid otherwise, None if there is none."""
-        firsts = self.pool.first_shared()
-        alone = self.first_elsewhere(firsts)
-        return self.first_two(self.first_inputs(firsts)) if alone is None else [alone]
+        alone = self.first_elsewhere()
+        return self.first_two(self.first_inputs(self.pool.first_shared())) if alone is None else [alone]
 
     def first_two(self, firsts):
         """The first line of two inputs that is laid otherwise where no single one is, None if there is none."""
@@ -125,8 +134,5 @@ class Likeness:
         found = {}
         for file_lot, file in self.pool.file_firsts.items():
             for name_lot in self.pool.name_firsts:
-                lot = file_lot & name_lot
-                if lot not in self.known_takers:
-                    self.known_takers[lot] = self.takers(lot)
-                found.setdefault(self.known_takers[lot], {}).setdefault(name_lot, file)
+                found.setdefault(self.takers(file_lot & name_lot), {}).setdefault(name_lot, file)
         return found
