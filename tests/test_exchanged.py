@@ -105,6 +105,26 @@ class TestExchanged(unittest.TestCase):
         self.assertIsNone(first_seen(Store({"m": obj("m"), "n": obj("n", "ab"), "ar": Archive(
             [("w", obj("a", "x")), ("q", obj("b", "y")), ("p", obj("xy"))])}), "m", made))
 
+    def test_where_something_is_always_missing(self):
+        # behind the one object there are more stands than behind the other one, and nobody sees it
+        weak = Object({"x": ("weak", None)})
+        store = Store({"m": Object({"x": ("weak", None)}, ["z"]), "n": weak, "o": obj("o", "x"), "ar": Archive([("p", obj("y"))])})
+        made = Object({"x": ("strong", None)}, ["z"])
+        self.assertIsNone(first_seen(store, "m", made))
+        self.assertIsNone(plainly_first(store, "m", made, 4))
+        files = {name: store.file(name) for name in store.files()}
+        self.assertNotEqual(len(stands(store)), len(stands(Store({**files, "m": made}))))
+        # as soon as something is there that can be missing else, it is seen
+        files["q"] = obj("q", "y")
+        made = Object({"x": ("strong", None), "y": ("weak", None)}, ["z"])
+        told = first_seen(Store(files), "m", made)
+        self.assertEqual(told, ["m", "q"])
+        self.assertEqual(told, plainly_first(Store(files), "m", made, 2))
+        far = Store({**files, "a": Archive([("k", obj("k", "y"))]), "q": obj("q", "k")})
+        told = first_seen(far, "m", made)
+        self.assertEqual(told, plainly_first(far, "m", made, 3))
+        self.assertEqual(len(told), 3)
+
     def test_errors(self):
         store = Store({"m": obj("m"), "ar": Archive([]), "l": Library([]), "g": ["ar"]})
         for thing in [*any_objects(), "x"]:

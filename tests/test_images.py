@@ -60,6 +60,9 @@ class TestImages(unittest.TestCase):
         for told in (image.cells, image.sections):
             spoil(told())
         self.assertEqual(image, Image(linked(example_91(), ("main", "lib", "end"))))
+        empty = Image(linked(Store({"m": Object({})}), ["m"]))
+        self.assertEqual(empty.cells(), [])
+        self.assertFalse(empty == Image(linked(Store({}), [])))
         for other in [Image(linked(example_91(), ["lib", "main", "end"])), Image(linked(Store({}), [])), *any_objects()]:
             self.assertFalse(image == other)
 

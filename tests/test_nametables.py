@@ -187,6 +187,14 @@ class TestAllWords(unittest.TestCase):
             other = NameTable(["z" * (length - 1), word], 2, modulo, 1, modulo)
             self.assertEqual(parted_by(table, other), "z" * (length - 1))
 
+    def test_numbers_that_only_words_of_the_table_have(self):
+        # by twos just these two words have 6628: who is not there never takes five steps
+        table = NameTable(["zzzzzzzx", "zzzzzzyz", "zzzzzzzz"], 2, 6700, 1, 6700)
+        self.assertEqual(numbers_at(table, 8)[6628], 2)
+        self.assertEqual([table.find(word)[1] for word in table.words()], [2, 4, 4])
+        self.assertEqual(most_steps(table), (4, "zzzzzzyz"))
+        self.assertIsNone(first_false(table))
+
     def test_where_tables_part(self):
         one = NameTable(["b", "a"], 31, 101, 7, 9)
         self.assertEqual(parted_by(one, NameTable(["b"], 31, 101, 7, 9)), "a")

@@ -77,6 +77,15 @@ class TestReaches(unittest.TestCase):
         self.assertEqual(far_sizes(plan, "a", "b", -5), [0, 2])
         self.assertIsNone(far_sizes(plan, "a", "b", 9))
 
+    def test_a_rest_that_comes_cheaper_later(self):
+        # c has to begin at a rest of 6: b at 4 behind one cell of a is cheaper than six cells of b
+        plan = Plan(8, [("a", "rx", 1, 0, 9, False), ("b", "rx", 4, 0, 9, False), ("c", "rx", 1, 3, 3, False),
+                        ("d", "rx", 8, 0, 9, False)])
+        self.assertEqual(far_sizes(plan, "c", "d", 9), [1, 2, 3, 0])
+        known = Known(plan, 2, 3)
+        for far in range(-1, 11):
+            self.assertEqual(far_sizes(plan, "c", "d", far), known.first_beyond(far))
+
     def test_at_the_limits(self):
         for aligns in ([1] * 8, [1, 2, 4, 8, 16, 32, 64, 1]):
             parts = [("abcdefgh"[at], "rx" if at < 6 else "rw", aligns[at], 0, 64, False) for at in range(8)]
