@@ -227,6 +227,28 @@ class TestMadeAgain(unittest.TestCase):
         house.told("l")
         self.assertEqual(house.made(), [("outcome", "l")])
 
+    def test_no_less_would_do(self):
+        # some other face of each object of the line makes the outcome otherwise, some other sections the program
+        for seed in range(40):
+            dice = random.Random(seed)
+            house = House()
+            for name in ("fa", "fb"):
+                house.put(name, "file", random_object(dice, list("abc")))
+            house.put("ar", "file", random_archive(dice, list("abc")))
+            line = dice.choices(["fa", "fb", "ar"], k=3)
+            house.put("l", "line", line)
+            if raised(house.program, "l") is not None:
+                continue
+            before = house.told("l")
+            for name in set(line) & {"fa", "fb"}:
+                held = house.held(name)
+                with_one_more = Object({**held.names(), "new": ("weak", None)}, held.wants(), held.asks(), held.sections())
+                self.assertNotEqual(house.trial(lambda given: given.put(name, "file", with_one_more) or given.told("l")), before)
+                parted = Object(held.names(), held.wants(), held.asks(), [*held.sections(), ("z", "r", 1, 1)])
+                changed = house.trial(lambda given: given.put(name, "file", parted) or (given.told("l"), given.program("l")))
+                self.assertEqual(changed[0], before)
+                self.assertNotEqual(changed[1], house.program("l"))
+
     def test_members_that_are_not_taken(self):
         house = example()
         house.put("ar", "file", Archive([("p", obj("a", "b")), ("q", Object({"y": ("strong", None)}))]))

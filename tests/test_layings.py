@@ -257,6 +257,28 @@ class TestLeftOut(unittest.TestCase):
             self.assertEqual(bars_out(script, every), first_line_taken(rules))
         self.assertGreater(more, 2)
 
+    def test_one_by_one_from_the_last_on(self):
+        several = 0
+        for seed in range(60):
+            rules, _ = random_scripts(seed, 3)
+            rules += [rules[0], rules[-1]]
+            script = Script(rules)
+            for lot in left_out(script):
+                left = list(rules)
+                for number in reversed(lot):
+                    del left[number]
+                    self.assertIs(are_alike(script, Script(left)), True)
+                several += len(lot) > 2
+        self.assertGreater(several, 5)
+
+    def test_what_wins_is_left_out_if_rules_behind_lay_it_so(self):
+        script = Script([("x", "a", "*", "line"), ("x", "*", "*", "line")])
+        # what the first one wins stands ahead of all else, so it stays
+        self.assertEqual(left_out(script), [()])
+        self.assertEqual(left_out(Script([("x", "a", "b", "line"), ("x", "[a]", "[b]", "line")])), [(0,), (1,)])
+        self.assertEqual(left_out(Script([("x", "a", "b", "name"), ("y", "c", "*", "line"), ("x", "a", "[bc]", "line")])), [()])
+        self.assertEqual(left_out(Script([("x", "a", "b", "name"), ("x", "a", "[bc]", "name")])), [(0,)])
+
     def test_each_but_not_both(self):
         script = Script([("x", "a", "b", "line"), ("x", "a", "b", "line")])
         self.assertEqual(call_alike(self, left_out, script), [(0,), (1,)])

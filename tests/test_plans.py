@@ -234,6 +234,17 @@ class TestOrders(unittest.TestCase):
             changed += told != sorted(told)
         self.assertGreater(changed, 20)
 
+    def test_multiples_of_aligns_leave_no_gap(self):
+        for seed in range(60):
+            dice = random.Random(seed)
+            aligns = [dice.choice([1, 2, 4, 8]) for _ in range(dice.randint(1, 5))]
+            sizes = [align * dice.randint(0, 3) for align in aligns]
+            zeros = dice.random() < 0.5
+            plan = Plan(8, [("abcde"[at], "rw", align, size, size, zeros) for at, (align, size) in enumerate(zip(aligns, sizes))])
+            falling = sorted(range(len(aligns)), key=lambda at: -aligns[at])
+            self.assertEqual(end_in(plan, sizes, falling), sum(sizes))
+            self.assertEqual(end_in(plan, sizes, best_order(plan, sizes)), sum(sizes))
+
     def test_falling_aligns(self):
         plan = Plan(8, [("a", "rx", 1, 3, 3, False), ("b", "rx", 8, 8, 8, False), ("c", "rx", 2, 2, 2, False),
                         ("z", "rx", 1, 1, 1, True), ("y", "rx", 4, 4, 4, True)])

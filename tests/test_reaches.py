@@ -70,6 +70,18 @@ class TestReaches(unittest.TestCase):
             there = [reach for sizes, reach in known.reach.items() if list(sizes[first:]) == mosts[first:]]
             self.assertEqual(max(there), reaches(known.plan, *known.words)[1])
 
+    def test_no_size_between_lessens_it(self):
+        lessened = 0
+        for _, known in known_ones(60, 4, 4):
+            first = [part[0] for part in known.plan.parts()].index(known.words[0])
+            for sizes, reach in known.reach.items():
+                for at in range(len(sizes)):
+                    other = (*sizes[:at], sizes[at] + 1, *sizes[at + 1:])
+                    if other in known.reach and at >= first:
+                        self.assertGreaterEqual(known.reach[other], reach)
+                    lessened += at < first and known.reach.get(other, reach) < reach
+        self.assertGreater(lessened, 20)
+
     def test_one_part_alone_between(self):
         plan = Plan(8, [("a", "rx", 1, 0, 9, False), ("b", "rx", 1, 2, 4, True)])
         self.assertEqual(reaches(plan, "a", "b"), (0, 9))
@@ -126,6 +138,15 @@ class TestBounds(unittest.TestCase):
                 beneath += any(known.reach[sizes] <= far and sizes not in holding for sizes in known.reach)
         self.assertGreater(several, 3)
         self.assertGreater(beneath, 5)
+
+
+    def test_bounds_hold_beneath_the_greatest_ones(self):
+        for dice, known in known_ones(40):
+            far = dice.choice(sorted(known.reach.values()))
+            greatest = greatest_bounds(known.plan, *known.words, far)
+            for bounds in known.reach:
+                self.assertIs(bounds_hold(known.plan, bounds, *known.words, far),
+                              any(is_below(bounds, other) for other in greatest))
 
 
 class TestWhatStays(unittest.TestCase):
